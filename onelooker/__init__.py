@@ -1,0 +1,1 @@
+"""Onelooker: deciding clauses over several theories that share names alone."""

@@ -1,0 +1,89 @@
+"""The interface: every name stands in its file, with its arguments, and each file needs earlier ones only."""
+
+import ast
+import importlib
+import inspect
+import pathlib
+import unittest
+
+import onelooker
+
+FUNCTIONS = {
+    "errors": {},
+    "names": {
+        "is_name": "(value)", "check_names": "(names)", "pairs": "(names)", "marked": "(keys)",
+        "block_count": "(marks)", "partitions": "(count)", "meet": "(first, second)", "cells_over": "(count)",
+        "check_cell": "(cell, count)", "renamed_marks": "(names, marks, mapping)",
+    },
+    "terms": {
+        "check_term": "(term)", "is_plain": "(term)", "depth": "(term)", "term_rank": "(term)", "subterms": "(term)",
+        "term_names": "(term)", "renamed_term": "(term, mapping)",
+    },
+    "literals": {
+        "same": "(first, second)", "size_at_most": "(limit)", "word": "(owner, text)",
+        "of_kind": "(owner, name, kind)", "below": "(owner, low, high)", "turn": "(owner, start, end, steps)",
+        "equal": "(owner, first, second)", "negated": "(literal)", "owner_of": "(literal)", "atom_names": "(atom)",
+        "clause": "(*literals)", "clause_of": "(literals)", "negations": "(literals)",
+        "holds_at": "(names, literal, cell)", "shared_literals": "(names)", "renamed_literal": "(literal, mapping)",
+    },
+    "cells": {},
+    "cards": {
+        "is_whole": "(value, least, most)", "check_card": "(card, width)",
+        "renamed_card": "(card, names, mapping)", "check_literal": "(literal, names, theories)",
+    },
+    "problems": {},
+    "scanning": {
+        "tokens": "(text, *, line=1)", "read_number": "(text, *, least=0, most=999, line=1)",
+    },
+}
+
+METHODS = {
+    ("cells", "Cells"): {
+        "__init__": "(self, width, rows)", "every": "(width)", "where": "(names, literals)",
+        "__eq__": "(self, other)", "__len__": "(self)", "__iter__": "(self)", "__contains__": "(self, x)",
+        "__and__": "(self, other)", "__or__": "(self, other)", "__sub__": "(self, other)", "__invert__": "(self)",
+        "within": "(self, other)", "meet_marks": "(self)", "has_marks": "(self, marks)",
+    },
+    ("problems", "Problem"): {
+        "__init__": "(self, names, theories, clauses)", "of": "(names, *clauses, **theories)",
+        "__eq__": "(self, other)", "__len__": "(self)", "__iter__": "(self)", "__contains__": "(self, x)",
+        "__getitem__": "(self, at)", "__add__": "(self, other)", "card": "(self, owner)", "theories": "(self)",
+        "clauses": "(self)", "put": "(self, label, clause)", "drop": "(self, label)", "only": "(self, labels)",
+        "renamed": "(self, mapping)", "atoms": "(self)",
+    },
+}
+
+STATIC = {("Cells", "every"), ("Cells", "where"), ("Problem", "of")}
+
+
+def module(name):
+    return importlib.import_module(f"onelooker.{name}")
+
+
+class InterfaceTest(unittest.TestCase):
+
+    def test_functions_stand_in_their_files(self):
+        for place, functions in FUNCTIONS.items():
+            for name, arguments in functions.items():
+                found = getattr(module(place), name)
+                self.assertEqual(found.__module__, f"onelooker.{place}", name)
+                self.assertEqual(str(inspect.signature(found)), arguments, name)
+
+    def test_methods_stand_in_their_classes(self):
+        for (place, owner), methods in METHODS.items():
+            holder = getattr(module(place), owner)
+            self.assertEqual(holder.__module__, f"onelooker.{place}")
+            for name, arguments in methods.items():
+                found = vars(holder)[name]
+                self.assertEqual(isinstance(found, staticmethod), (owner, name) in STATIC, name)
+                self.assertEqual(str(inspect.signature(getattr(holder, name))), arguments, name)
+
+    def test_each_file_imports_from_earlier_ones_only(self):
+        folder = pathlib.Path(onelooker.__file__).parent
+        earlier = []
+        for name in FUNCTIONS:
+            tree = ast.parse((folder / f"{name}.py").read_text())
+            for node in ast.walk(tree):
+                if isinstance(node, ast.ImportFrom):
+                    self.assertIn(node.module, earlier, name)
+            earlier.append(f"onelooker.{name}")

@@ -1,0 +1,114 @@
+"""Those rules of the program's language that are easily seen in the syntax of a file."""
+
+import ast
+import importlib
+import pathlib
+import unittest
+
+import onelooker
+
+BUILTINS = set("""len range enumerate zip min max sum abs sorted reversed int str bool list tuple dict set isinstance
+    ord repr any all divmod iter next map Exception ValueError TypeError KeyError IndexError LookupError
+    ZeroDivisionError ArithmeticError OverflowError RuntimeError NotImplementedError AttributeError StopIteration
+    NotImplemented staticmethod classmethod property super""".split())
+METHODS = set("""append clear copy count endswith extend find get index insert isalnum isalpha isdigit islower isspace
+    isupper items join keys ljust lower lstrip partition pop remove replace reverse rfind rjust rpartition rsplit
+    rstrip setdefault split splitlines startswith strip update upper values zfill bit_length""".split())
+SPECIAL = set("""__init__ __eq__ __repr__ __str__ __len__ __enter__ __exit__ __call__ __iter__ __add__ __sub__ __and__
+    __or__ __invert__ __contains__ __getitem__ __setitem__""".split())
+BARRED_WORDS = ("type", "typing", "enum", "Enum", "Flag", "Generic", "Protocol", "namedtuple")
+BARRED_NODES = (ast.Global, ast.AsyncFunctionDef, ast.AsyncFor, ast.AsyncWith, ast.Await, ast.Div, ast.Import)
+TAKING_LISTS = ("any", "all", "min", "max", "sum", "sorted")
+
+FOLDER = pathlib.Path(onelooker.__file__).parent
+FILES = sorted(path for path in FOLDER.rglob("*") if path.is_file() and "__pycache__" not in path.parts)
+TEXTS = {path.name: path.read_text(encoding="utf-8") for path in FILES}
+TREES = {name: ast.parse(text) for name, text in TEXTS.items()}
+
+
+def nodes(kind):
+    """The nodes of this kind in all files, with their files."""
+    return [(name, node) for name, tree in TREES.items() for node in ast.walk(tree) if isinstance(node, kind)]
+
+
+class LanguageTest(unittest.TestCase):
+
+    def test_the_folder_holds_python_files_alone(self):
+        self.assertEqual([path.name for path in FILES if path.suffix != ".py"], [])
+        self.assertIn("__init__.py", TEXTS)
+
+    def test_sizes_and_characters(self):
+        for name, text in TEXTS.items():
+            self.assertLessEqual(len(text.splitlines()), 399, name)
+            for line in text.splitlines():
+                self.assertLessEqual(len(line), 120, f"{name}: {line}")
+            self.assertEqual([sign for sign in text if sign != "\n" and not " " <= sign <= "~"], [], name)
+
+    def test_functions_have_at_most_40_lines(self):
+        for name, node in nodes(ast.FunctionDef):
+            self.assertLessEqual(node.end_lineno - node.lineno + 1, 40, f"{name}: {node.name}")
+
+    def test_no_statement_or_expression_outside_the_language(self):
+        for name, node in nodes(BARRED_NODES):
+            self.fail(f"{name}:{node.lineno}: {type(node).__name__}")
+
+    def test_no_generator_expression_where_a_list_is_asked(self):
+        for name, node in nodes(ast.Call):
+            if isinstance(node.func, ast.Name) and node.func.id in TAKING_LISTS:
+                for argument in node.args:
+                    self.assertNotIsInstance(argument, ast.GeneratorExp, f"{name}:{node.lineno}")
+
+    def test_imports_name_the_file_that_defines(self):
+        for name, node in nodes(ast.ImportFrom):
+            self.assertTrue(node.module.startswith("onelooker."), name)
+            source = TREES[node.module.split(".")[1] + ".py"]
+            defined = {part.name for part in source.body if isinstance(part, (ast.FunctionDef, ast.ClassDef))}
+            defined |= {target.id for part in source.body if isinstance(part, ast.Assign) for target in part.targets}
+            for alias in node.names:
+                self.assertIn(alias.name, defined, name)
+
+    def test_builtins_are_those_of_the_language_and_keep_their_meaning(self):
+        every = set(dir(importlib.import_module("builtins")))
+        for name, node in nodes((ast.Name, ast.arg, ast.FunctionDef, ast.ClassDef)):
+            used = getattr(node, "id", None) or getattr(node, "arg", None) or node.name
+            if used in every:
+                self.assertIsInstance(node, ast.Name, f"{name}: {used}")
+                self.assertIsInstance(node.ctx, ast.Load, f"{name}:{node.lineno}: {used}")
+                self.assertIn(used, BUILTINS, f"{name}:{node.lineno}")
+
+    def test_called_methods_are_own_or_of_the_language(self):
+        own = {node.name for _, node in nodes(ast.FunctionDef)}
+        for name, node in nodes(ast.Call):
+            if isinstance(node.func, ast.Attribute):
+                self.assertIn(node.func.attr, METHODS | own, f"{name}:{node.lineno}")
+
+    def test_double_underscore_methods(self):
+        for name, node in nodes(ast.FunctionDef):
+            if node.name.startswith("__"):
+                self.assertIn(node.name, SPECIAL, name)
+
+    def test_strings(self):
+        for name, node in nodes(ast.Constant):
+            self.assertNotIsInstance(node.value, (float, bytes, complex), name)
+            if isinstance(node.value, str):
+                self.assertNotIn("%", node.value, name)
+                self.assertNotIn(node.value, BARRED_WORDS, name)
+
+    def test_sets_stand_in_sorted_or_len_alone(self):
+        allowed = {id(argument) for _, node in nodes(ast.Call) if isinstance(node.func, ast.Name)
+                   and node.func.id in ("sorted", "len") and not node.keywords for argument in node.args}
+        made = [(name, node) for name, node in nodes(ast.Call)
+                if isinstance(node.func, ast.Name) and node.func.id == "set"]
+        for name, node in made + nodes((ast.SetComp, ast.Set)):
+            self.assertIn(id(node), allowed, f"{name}:{node.lineno}")
+
+    def test_no_name_of_an_import_is_bound_again(self):
+        for name, tree in TREES.items():
+            imports = [node for node in ast.walk(tree) if isinstance(node, ast.ImportFrom)]
+            imported = {alias.name for node in imports for alias in node.names}
+            imported |= {node.name for node in tree.body if isinstance(node, ast.ClassDef)}
+            for node in ast.walk(tree):
+                if isinstance(node, ast.Name) and isinstance(node.ctx, ast.Store):
+                    self.assertNotIn(node.id, imported, f"{name}:{node.lineno}")
+                if isinstance(node, ast.arg):
+                    self.assertNotIn(node.arg, imported, f"{name}:{node.lineno}")
