@@ -35,6 +35,31 @@ FUNCTIONS = {
     "scanning": {
         "tokens": "(text, *, line=1)", "read_number": "(text, *, least=0, most=999, line=1)",
     },
+    "writing": {
+        "write_term": "(term)", "write_literal": "(literal)", "write_clause": "(clause)", "write_card": "(card)",
+        "written_lines": "(problem)", "write_problem": "(problem)",
+    },
+    "reading": {
+        "read_term": "(text, *, line=1)", "read_literal": "(text, names, theories, *, line=1)",
+        "read_clause": "(text, names, theories, *, line=1, most=8)", "read_card": "(text, width, *, line=1)",
+        "read_problem": "(text)",
+    },
+    "equalterms": {"closure": "(pairs, terms)"},
+    "chains": {
+        "chain": "(equations, first, second)", "conclusions": "(equations, steps)", "read_chain": "(equations, steps)",
+    },
+    "leastterms": {
+        "rewritten": "(term, equations)", "rules": "(equations)", "alike_equations": "(equations, others)",
+    },
+    "propagating": {
+        "propagate": "(clauses, start=(), *, order=None)", "clash_rows": "(clauses, propagated)",
+    },
+    "flipping": {
+        "positive": "(literal, flipped)", "is_horn": "(clauses, flipped)", "horn_flips": "(clauses, fixed)",
+        "horn_bar": "(clauses, fixed)", "is_horn_bar": "(clauses, fixed, bar)",
+        "horn_valuation": "(clauses, flipped)",
+    },
+    "picks": {"picks": "(clauses)", "is_torn": "(literals)", "least_units": "(clauses)"},
 }
 
 METHODS = {
@@ -51,9 +76,21 @@ METHODS = {
         "clauses": "(self)", "put": "(self, label, clause)", "drop": "(self, label)", "only": "(self, labels)",
         "renamed": "(self, mapping)", "atoms": "(self)",
     },
+    ("equalterms", "EqualTerms"): {
+        "__init__": "(self)", "of": "(*equations)", "__len__": "(self)", "__iter__": "(self)",
+        "__contains__": "(self, x)", "__getitem__": "(self, at)", "put": "(self, label, first, second)",
+        "undo": "(self)", "drop": "(self, label)", "same": "(self, first, second)",
+        "reasons": "(self, first, second)", "classes": "(self, *terms)", "least": "(self, term)",
+    },
+    ("propagating", "Propagation"): {
+        "replayed": "(clauses, steps)", "__len__": "(self)", "__iter__": "(self)", "__contains__": "(self, x)",
+        "__getitem__": "(self, at)",
+    },
 }
 
-STATIC = {("Cells", "every"), ("Cells", "where"), ("Problem", "of")}
+STATIC = {("Cells", "every"), ("Cells", "where"), ("Problem", "of"), ("EqualTerms", "of"), ("Propagation", "replayed")}
+PROPERTIES = [("equalterms", "EqualTerms", "equations")]
+GENERATORS = [("writing", "written_lines"), ("picks", "picks")]
 
 
 def module(name):
@@ -77,6 +114,16 @@ class InterfaceTest(unittest.TestCase):
                 found = vars(holder)[name]
                 self.assertEqual(isinstance(found, staticmethod), (owner, name) in STATIC, name)
                 self.assertEqual(str(inspect.signature(getattr(holder, name))), arguments, name)
+
+    def test_properties_stand_in_their_classes(self):
+        for place, owner, name in PROPERTIES:
+            self.assertIsInstance(vars(getattr(module(place), owner))[name], property)
+
+    def test_generators(self):
+        for place, functions in FUNCTIONS.items():
+            for name in functions:
+                found = getattr(module(place), name)
+                self.assertEqual(inspect.isgeneratorfunction(found), (place, name) in GENERATORS, name)
 
     def test_each_file_imports_from_earlier_ones_only(self):
         folder = pathlib.Path(onelooker.__file__).parent
