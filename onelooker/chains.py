@@ -3,7 +3,7 @@
 from onelooker.cards import is_whole
 from onelooker.equalterms import known_terms, reasons_for, unions
 from onelooker.errors import BadStep, NotSame
-from onelooker.names import is_int, is_name
+from onelooker.names import is_int
 from onelooker.terms import is_term
 
 
@@ -37,7 +37,8 @@ def _unite(proved, leads, left, right):
     _turn(proved, left, old)
     _join(proved, old, left, right)
     _join(proved, old, right, new)
-    for term in [term for term, lead in leads.items() if lead == old]:
+    members = [member for member, lead in leads.items() if lead == old]
+    for term in members:
         _join(proved, term, old, new)
         leads[term] = new
 
@@ -91,7 +92,7 @@ def _has_numbers(step, start, found):
 
 def _applied(step, found):
     """The pair that an apply step concludes from the pairs of its earlier steps; None if it concludes none."""
-    if len(step) not in (3, 4) or not is_name(step[1]) or not _has_numbers(step, 2, found):
+    if len(step) not in (3, 4) or not _has_numbers(step, 2, found):
         return None
     used = [found[number] for number in step[2:]]
     return (step[1], *[left for left, _ in used]), (step[1], *[right for _, right in used])
@@ -110,8 +111,8 @@ def _joined(step, found):
 
 
 def _concluded(step, sources, found):
-    """The two values that a step concludes; None if it concludes none."""
-    if not isinstance(step, tuple) or len(step) < 2:
+    """The two values that a step concludes, be they terms or not; None if it concludes none."""
+    if not isinstance(step, tuple) or len(step) == 0:
         return None
     if step[0] == "given":
         return sources[step[1]] if len(step) == 2 and is_int(step[1]) and step[1] in sources else None
@@ -126,6 +127,7 @@ def conclusions(equations, steps):
     found = []
     for index, step in enumerate(steps):
         pair = _concluded(step, sources, found)
+        # Terms are within the greatest depth, and their functions are names.
         if pair is None or not is_term(pair[0]) or not is_term(pair[1]):
             raise BadStep(index)
         found.append(pair)

@@ -54,7 +54,7 @@ def _path(steps, start, end):
     found = [end]
     while found[-1] != start:
         found.append(before[found[-1]])
-    return list(reversed(found))
+    return found[::-1]
 
 
 def _positive_literals(clauses, steps):

@@ -8,21 +8,19 @@ from onelooker.cards import check_card, check_literal
 from onelooker.errors import BadCard, BadLiteral, BadName, BadText, LookerError, NoOwner
 from onelooker.literals import MOST_LITERALS
 from onelooker.names import ENDLESS, check_names, is_ascending
-from onelooker.problems import MOST_LABEL, Problem
+from onelooker.problems import Problem
 from onelooker.scanning import read_number, tokens
 from onelooker.terms import MOST_DEPTH, is_term
 from onelooker.writing import write_card, write_literal, write_problem, write_term
 
 
 def _arguments_at(found, at, room, line):
-    """The arguments from an index of the tokens on, and the index behind the parenthesis that closes them."""
+    """The arguments from an index of the tokens on, and the index behind the sign that closes them."""
     first, end = _term_at(found, at, room, line)
     arguments = [first]
     while found[end:end + 1] == [","]:
         following, end = _term_at(found, end + 1, room, line)
         arguments.append(following)
-    if found[end:end + 1] != [")"]:
-        raise BadText(line)
     return arguments, end + 1
 
 
@@ -37,18 +35,16 @@ def _term_at(found, at, room, line):
     return (found[at], *arguments), end
 
 
-def _only_term(found, line):
-    """The term that all the tokens make up."""
-    term, end = _term_at(found, 0, MOST_DEPTH, line)
-    if end != len(found) or not is_term(term):
-        raise BadText(line)
+def _term(found, line):
+    """What looks like the term that the tokens make up."""
+    term, _ = _term_at(found, 0, MOST_DEPTH, line)
     return term
 
 
 def read_term(text, *, line=1):
     """The term with this written form."""
-    term = _only_term(tokens(text, line=line), line)
-    if write_term(term) != text:
+    term = _term(tokens(text, line=line), line)
+    if not is_term(term) or write_term(term) != text:
         raise BadText(line)
     return term
 
@@ -75,7 +71,7 @@ def _own_parts(found, line):
     if "=" not in found:
         raise BadText(line)
     at = found.index("=")
-    return ("equal", _only_term(found[:at], line), _only_term(found[at + 1:], line))
+    return ("equal", _term(found[:at], line), _term(found[at + 1:], line))
 
 
 def _atom(found, line):
@@ -171,7 +167,7 @@ def _with_line(problem, text, line):
         owner, _, card = rest.partition(" ")
         theories[owner] = read_card(card, len(problem.names), line=line)
     else:
-        label = read_number(head[:-1], least=1, most=MOST_LABEL, line=line)
+        label = read_number(head[:-1], line=line)
         clauses[label] = read_clause(rest, problem.names, theories, line=line)
     try:
         return Problem(problem.names, theories, clauses)

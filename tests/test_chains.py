@@ -11,7 +11,8 @@ EXAMPLE = (("given", 1), ("given", 2), ("join", 0, 1), ("apply", "f", 2))
 STEPS = [
     (("given", 1), (A, B)), (("given", 2), (B, C)), (("still", D), (D, D)), (("turn", 0), (B, A)),
     (("join", 0, 1), (A, C)), (("apply", "f", 4), (FA, FC)), (("apply", "g", 0, 2), (("g", A, D), ("g", B, D))),
-    (("given", 7), (FA, D)), (("turn", 7), (D, FA)), (("join", 8, 5), (D, FC)), (("apply", "f", 5), (("f", FA), ("f", FC)))]
+    (("given", 7), (FA, D)), (("turn", 7), (D, FA)), (("join", 8, 5), (D, FC)),
+    (("apply", "f", 5), (("f", FA), ("f", FC)))]
 
 
 class ChainTest(LookerCase):
@@ -26,7 +27,8 @@ class ChainTest(LookerCase):
         used = {number for step in steps for number in step[1:] if step[0] in ("turn", "join")}
         used |= {number for step in steps for number in step[2:] if step[0] == "apply"}
         self.assertEqual(used, set(range(len(steps) - 1)))
-        known = set().union(parts_of(first), parts_of(second), *[parts_of(term) for row in equations for term in row[1:]])
+        known = set().union(parts_of(first), parts_of(second),
+                            *[parts_of(term) for row in equations for term in row[1:]])
         self.assertLessEqual({term for pair in found for term in pair}, known)
         labels = sorted(step[1] for step in steps if step[0] == "given")
         self.assertEqual(tuple(labels), EqualTerms.of(*equations).reasons(first, second))

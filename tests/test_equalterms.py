@@ -59,6 +59,11 @@ class ClosureTest(LookerCase):
         leads = closure([(DEEP, A), (longer, A)], [])
         self.assertEqual(set(leads.values()), {A})
 
+    def test_what_greater_terms_say_of_lesser_ones(self):
+        pairs = [(FA, FB), (("g", FA), A), (("g", FB), B)]
+        leads = closure(pairs, [("h", A), ("h", B)])
+        self.assertEqual((leads[B], leads[("h", B)], leads[FB]), (A, ("h", A), FA))
+
     def test_what_follows_from_the_rules(self):
         for equations in samples(1, 60, 4):
             pairs, terms = pairs_of(equations), SMALL[:4]
@@ -97,7 +102,8 @@ class HoldingTest(LookerCase):
         self.assertIsNone(group.put(3, FA, FA))
         self.assertIsNone(group.put(999, C, DEEP))
         self.assertEqual(repr(group.equations), repr(((7, A, B), (3, FA, FA), (999, C, DEEP))))
-        self.assertEqual((len(group), list(group), [7 in group, 3 in group, 1 in group]), (3, [7, 3, 999], [True, True, False]))
+        self.assertEqual((len(group), list(group), [7 in group, 3 in group, 1 in group]),
+                         (3, [7, 3, 999], [True, True, False]))
         self.assertEqual((group[7], group[3], group[999]), ((A, B), (FA, FA), (C, DEEP)))
         self.refuses(NoLabel, {"label": 8}, lambda: group[8])
         self.assertEqual(EqualTerms.of((7, A, B), (3, FA, FA), (999, C, DEEP)).equations, group.equations)

@@ -163,7 +163,8 @@ class BarTest(LookerCase):
         # Literals of TWO_WAYS: whichever of p and not p is positive denies both q and not q.
         for bar in [(P, NOT_Q, NOT_P, Q, P), (P, Q, NOT_P, NOT_Q, P), (P, Q, NOT_P, Q, P), (Q, P, NOT_Q, NOT_P, Q),
                     (P, Q, NOT_P, Q, P, Q, P), (P, NOT_Q, P, NOT_Q, NOT_P, Q, P)]:
-            self.gives(all(is_forced(TWO_WAYS, [], *pair) for pair in zip(bar, bar[1:])), is_horn_bar, TWO_WAYS, [], bar)
+            right = all(is_forced(TWO_WAYS, [], *pair) for pair in zip(bar, bar[1:]))
+            self.gives(right, is_horn_bar, TWO_WAYS, [], bar)
         self.gives(True, is_horn_bar, TWO_WAYS, (), (P, NOT_Q, NOT_P, Q, P))
         self.gives(True, is_horn_bar, [(P, Q)], [PA, QA], (P, NOT_Q, Q, NOT_P, P))
         self.gives(False, is_horn_bar, [(P, Q)], [PA], (P, NOT_Q, Q, NOT_P, P))

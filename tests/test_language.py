@@ -18,6 +18,7 @@ SPECIAL = set("""__init__ __eq__ __repr__ __str__ __len__ __enter__ __exit__ __c
     __or__ __invert__ __contains__ __getitem__ __setitem__""".split())
 BARRED_WORDS = ("type", "typing", "enum", "Enum", "Flag", "Generic", "Protocol", "namedtuple")
 BARRED_NODES = (ast.Global, ast.AsyncFunctionDef, ast.AsyncFor, ast.AsyncWith, ast.Await, ast.Div, ast.Import)
+ITERATING = ("list", "tuple", "dict", "sorted", "sum", "min", "max", "any", "all", "enumerate", "zip", "join")
 TAKING_LISTS = ("any", "all", "min", "max", "sum", "sorted")
 
 FOLDER = pathlib.Path(onelooker.__file__).parent
@@ -29,6 +30,11 @@ TREES = {name: ast.parse(text) for name, text in TEXTS.items()}
 def nodes(kind):
     """The nodes of this kind in all files, with their files."""
     return [(name, node) for name, tree in TREES.items() for node in ast.walk(tree) if isinstance(node, kind)]
+
+
+def called(node):
+    """The name of the function or the method that a call calls."""
+    return getattr(node.func, "id", getattr(node.func, "attr", ""))
 
 
 class LanguageTest(unittest.TestCase):
@@ -57,6 +63,33 @@ class LanguageTest(unittest.TestCase):
             if isinstance(node.func, ast.Name) and node.func.id in TAKING_LISTS:
                 for argument in node.args:
                     self.assertNotIsInstance(argument, ast.GeneratorExp, f"{name}:{node.lineno}")
+
+    def test_reversed_takes_what_is_plainly_a_list(self):
+        for name, node in nodes(ast.Call):
+            if isinstance(node.func, ast.Name) and node.func.id == "reversed":
+                self.assertIsInstance(node.args[0], ast.Call, f"{name}:{node.lineno}")
+                self.assertIn(node.args[0].func.id, ("list", "tuple", "sorted", "range"), f"{name}:{node.lineno}")
+
+    def test_generators_are_iterated_at_once(self):
+        functions = [node for _, node in nodes(ast.FunctionDef)]
+        own = [node.name for node in functions if any(isinstance(part, ast.Yield) for part in ast.walk(node))]
+        self.assertIn("picks", own)
+        names = [node.name for node in functions]
+        self.assertEqual([name for name in own if names.count(name) != 1], [])
+        self.check_iterated(own)
+
+    def test_views_and_zips_are_iterated_at_once(self):
+        self.check_iterated(["zip", "enumerate", "reversed", "range", "items", "keys", "values"])
+
+    def check_iterated(self, names):
+        """Each call of one of these stands where it is iterated on the spot."""
+        allowed = {id(node.iter) for _, node in nodes((ast.For, ast.comprehension))}
+        for _, node in nodes(ast.Call):
+            if called(node) in ITERATING:
+                allowed |= {id(argument) for argument in node.args}
+        for name, node in nodes(ast.Call):
+            if called(node) in names:
+                self.assertIn(id(node), allowed, f"{name}:{node.lineno}")
 
     def test_imports_name_the_file_that_defines(self):
         for name, node in nodes(ast.ImportFrom):

@@ -37,6 +37,10 @@ class RewrittenTest(LookerCase):
         self.gives(("f", A, B), rewritten, ("f", B, A), [(1, ("f", B, A), ("f", A, B))])
         self.gives(("g", B), rewritten, DEEP, [(1, DEEP, ("g", B))])
 
+    def test_a_form_that_a_greater_term_brings(self):
+        equations = [(1, ("k", C), ("g", ("h", ("h", A)))), (2, ("h", ("h", A)), B)]
+        self.gives(("f", ("g", B)), rewritten, ("f", ("k", C)), equations)
+
     def test_a_ring_of_equations(self):
         ring = [(1, FA, GA), (2, GA, DEEP), (3, DEEP, D), (4, D, FA)]
         for term in [FA, GA, DEEP, D]:
@@ -113,7 +117,8 @@ class AlikeTest(LookerCase):
 
     def test_lists_that_are_not_alike(self):
         for first, second in [([], [(1, A, B)]), ([(1, A, B)], [(1, A, B), (2, B, C)]), ([(1, A, B)], [(1, A, C)]),
-                              ([(1, FA, FB)], [(1, A, B)]), ([(1, FA, B)], [(1, GA, B)]), ([(1, DEEP, A)], [(1, FA, A)])]:
+                              ([(1, FA, FB)], [(1, A, B)]), ([(1, FA, B)], [(1, GA, B)]),
+                              ([(1, DEEP, A)], [(1, FA, A)])]:
             self.gives(False, alike_equations, first, second)
             self.gives(False, alike_equations, second, first)
 

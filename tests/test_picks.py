@@ -76,7 +76,8 @@ class TornTest(LookerCase):
             self.gives(True, is_torn, literals)
 
     def test_not_torn(self):
-        for literals in [(), [], (P,), (NOT_P,), [P, P], (P, Q, NOT_R), (P, word("p", "p")), (P, negated(word("x", "p")))]:
+        for literals in [(), [], (P,), (NOT_P,), [P, P], (P, Q, NOT_R), (P, word("p", "p")),
+                         (P, negated(word("x", "p")))]:
             self.gives(False, is_torn, literals)
 
 

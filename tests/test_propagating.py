@@ -114,8 +114,9 @@ class PropagateTest(LookerCase):
 
     def test_an_order_without_each_label_once(self):
         clauses = {1: (P,), 2: (Q,), 3: (NOT_P,)}
-        for order in [(), (1, 2), (1, 2, 2), (1, 2, 3, 3), (1, 2, 4), (1, 2, 3, 4), (0, 1, 2, 3), (True, 2, 3), (1, 2, "3"),
-                      (1, 2, None), ("1", "2", "3"), (1, 2, (3,)), (1, 2, [3]), [3, 2, True], [], (1.0, 2, 3)]:
+        for order in [(), (1, 2), (1, 2, 2), (1, 2, 3, 3), (1, 2, 4), (1, 2, 3, 4), (0, 1, 2, 3), (True, 2, 3),
+                      (1, 2, "3"), (1, 2, None), ("1", "2", "3"), (1, 2, (3,)), (1, 2, [3]), [3, 2, True], [],
+                      (1.0, 2, 3)]:
             self.refuses(BadOrder, {"value": order}, propagate, clauses, order=order)
             self.refuses(BadOrder, {"value": order}, propagate, clauses, (P, NOT_P), order=order)
         self.refuses(BadOrder, {"value": (1,)}, propagate, {}, order=(1,))
@@ -266,12 +267,14 @@ class ReplayedTest(LookerCase):
                     right = right and all(earlier == 0 for _, earlier in steps)
                 else:
                     others = [other for other in clauses[label] if other != literal]
-                    right = right and literal in clauses[label] and negated(literal) not in held and denied(others, held)
+                    right = right and literal in clauses[label] and negated(literal) not in held
+                    right = right and denied(others, held)
                 if right and len(steps) < 4:
                     steps.append((literal, label))
                     self.assertEqual(Propagation.replayed(clauses, steps).steps, tuple(steps))
                 elif not right:
-                    self.refuses(BadStep, {"index": len(steps)}, Propagation.replayed, clauses, [*steps, (literal, label)])
+                    self.refuses(BadStep, {"index": len(steps)}, Propagation.replayed, clauses,
+                                 [*steps, (literal, label)])
                 ends[right] += 1
         self.assertTrue(ends[True] > 100 and ends[False] > 100)
 

@@ -18,7 +18,8 @@ SIGNS = " (),.:=<+\nabkfnort0129-A"
 LITERALS = [
     same("a", "b"), same("b", "c"), size_at_most(1), size_at_most(2), word("r", "p"), word("r", "z12"),
     of_kind("k", "a", "b"), of_kind("k", "c", "r"), below("o", "a", "b"), below("o", "c", "c"),
-    turn("u", "a", "b", 1), turn("u", "c", "a", 0), turn("u", "b", "b", 2), equal("t", A, FA), equal("t", FA, ("g", C, A)),
+    turn("u", "a", "b", 1), turn("u", "c", "a", 0), turn("u", "b", "b", 2), equal("t", A, FA),
+    equal("t", FA, ("g", C, A)),
     equal("t", ("f", ("f", FA)), ("f", ("f", ("f", B))))]
 CARDS = [
     ("below",), ("terms",), ("ring", 2), ("ring", 3), KINDS, ROWS, ("kinds", (("k", 2),)), ("kinds", (("k", 1),)),
@@ -76,12 +77,13 @@ class TermTest(ReaderCase):
 
     def test_what_is_no_term(self):
         self.refuses_texts(read_term, [
-            "", " ", "a ", " a", "f (a)", "f( a)", "f(a )", "f(a, b)", "f()", "f(a", "f(a))", "f(a)b", "f(a) b", "fa)", "(a)",
-            "f(a,)", "f(,a)", "f(a,b,c)", "f(a,b,c,d)", "ab", "a1234", "1", "1a", "A", "f(A)", "f(ab)", "ff(a)", "a b",
-            "f(a)\n", "f(a)(b)", "f((a))", "a=b", "a.", "f\u0430", "f(a\u0662)", ",", "(", ")", "()", "=", "<=", "f(<=)"])
+            "", " ", "a ", " a", "f (a)", "f( a)", "f(a )", "f(a, b)", "f()", "f(a", "f(a))", "f(a)b", "f(a) b", "fa)",
+            "(a)", "f(a,)", "f(,a)", "f(a,b,c)", "f(a,b,c,d)", "ab", "a1234", "1", "1a", "A", "f(A)", "f(ab)",
+            "ff(a)", "a b", "f(a)\n", "f(a)(b)", "f((a))", "a=b", "a.", "f\u0430", "f(a\u0662)", ",", "(", ")", "()",
+            "=", "<=", "f(<=)"])
 
     def test_long_texts(self):
-        self.refuses_texts(read_term, ["a" * 20000, "f(" + "a," * 9998 + "a)", "f(a)" * 5000, " " * 20000, "(" * 50])
+        self.refuses_texts(read_term, ["f(" * 6000 + "a" + ")" * 6000, "f(" * 10000, "a" * 20000, "f(" + "a," * 9998 + "a)", "f(a)" * 5000, " " * 20000, "(" * 50])
 
 
 class LiteralTest(ReaderCase):
@@ -113,21 +115,23 @@ class LiteralTest(ReaderCase):
         for owner in THEORIES:
             for other, form in forms.items():
                 if owner == other:
-                    self.assertEqual(write_literal(read_literal(f"{owner}: {form}", NAMES, THEORIES)), f"{owner}: {form}")
+                    self.assertEqual(write_literal(read_literal(f"{owner}: {form}", NAMES, THEORIES)),
+                                     f"{owner}: {form}")
                 else:
                     self.refuses_texts(read_literal, [f"{owner}: {form}"], NAMES, THEORIES)
 
     def test_what_is_no_literal(self):
         self.refuses_texts(read_literal, [
-            "", "not", "not ", "a", "b = a", "a = a", "a = b = c", "a < b", "a <= b", "a=b", "a  = b", "a = b ", "a = b\n",
-            "not not a = b", "not  a = b", "nota = b", "false", "a = b or b = c", "a = d", "size <= 0", "size <= 3",
-            "size <= 01", "size = 1", "size <= a", "size < 1", "size < = 1", "size <= 1000", "size <=", "size <= 1 1",
-            "a <= 1", "not: a = b", "o:a < b", "o : a < b", "o: a<b", "o: a <= b", "o: a < d", "o: a <", "o: < a", "o:",
-            "o: ", "o: o: a < b", ": a < b", "o: a < b < c", "not o: not a < b", "o: not a < b", "k: a is g", "k: a isb",
-            "k: d is b", "k: is b", "k: a is", "k: a is b r", "r: p q", "r: P", "r: pp", "r: 1", "r: not", "r: or", "r: is",
-            "r: p1234", "r: (p)", "u: a = b", "u: a = b + 3", "u: a = b + 01", "u: a = b + 00", "u: a = b +", "u: a = b + a",
-            "u: a = b + 1 + 1", "u: a + 1 = b", "u: a = b+1", "u: d = a + 1", "u: a = b - 1", "t: f(a) = a", "t: a = b",
-            "t: a = a", "t: f(a) = f(a)", "t: a = f(d)", "t: a = f(a", "t: a = f(f(f(f(a))))", "t: a =", "t: = a", "t: =",
+            "", "not", "not ", "a", "b = a", "a = a", "a = b = c", "a < b", "a <= b", "a=b", "a  = b", "a = b ",
+            "a = b\n", "not not a = b", "not  a = b", "nota = b", "false", "a = b or b = c", "a = d", "size <= 0",
+            "size <= 3", "size <= 01", "size = 1", "size <= a", "size < 1", "size < = 1", "size <= 1000", "size <=",
+            "size <= 1 1", "a <= 1", "not: a = b", "o:a < b", "o : a < b", "o: a<b", "o: a <= b", "o: a < d",
+            "o: a <", "o: < a", "o:", "o: ", "o: o: a < b", ": a < b", "o: a < b < c", "not o: not a < b",
+            "o: not a < b", "k: a is g", "k: a isb", "k: d is b", "k: is b", "k: a is", "k: a is b r", "r: p q",
+            "r: P", "r: pp", "r: 1", "r: not", "r: or", "r: is", "r: p1234", "r: (p)", "u: a = b", "u: a = b + 3",
+            "u: a = b + 01", "u: a = b + 00", "u: a = b +", "u: a = b + a", "u: a = b + 1 + 1", "u: a + 1 = b",
+            "u: a = b+1", "u: d = a + 1", "u: a = b - 1", "t: f(a) = a", "t: a = b", "t: a = a", "t: f(a) = f(a)",
+            "t: a = f(d)", "t: a = f(a", "t: a = f(f(f(f(a))))", "t: a =", "t: = a", "t: =",
             "t: a = f(a) = b", "t: a = f(a, b)", "t: a f(a)", "t: a == f(a)"], NAMES, THEORIES)
 
     def test_long_texts(self):
@@ -146,7 +150,8 @@ class ClauseTest(ReaderCase):
         return clause_of([word("r", f"w{number}") for number in range(many)])
 
     def test_written_clauses_are_read(self):
-        for literals in [(), LITERALS[:1], LITERALS[:3], LITERALS[2:10], LITERALS[8:], [LITERALS[0], negated(LITERALS[0])]]:
+        for literals in [(), LITERALS[:1], LITERALS[:3], LITERALS[2:10], LITERALS[8:],
+                         [LITERALS[0], negated(LITERALS[0])]]:
             self.reads(write_clause, read_clause, clause_of(literals), NAMES, THEORIES)
 
     def test_the_empty_clause(self):
@@ -166,7 +171,8 @@ class ClauseTest(ReaderCase):
     def test_literals_ascend_and_differ(self):
         first, second = "not a = b", "a = b"
         self.gives((negated(same("a", "b")), same("a", "b")), read_clause, f"{first} or {second}", NAMES, {})
-        self.refuses_texts(read_clause, [f"{second} or {first}", f"{first} or {first}", "size <= 1 or a = b"], NAMES, {})
+        for text in [f"{second} or {first}", f"{first} or {first}", "size <= 1 or a = b"]:
+            self.refuses_texts(read_clause, [text], NAMES, {})
 
     def test_bent_clauses(self):
         for literals in [(), LITERALS[:2], LITERALS[8:9] + LITERALS[2:3], LITERALS[4:5] + LITERALS[10:11]]:
@@ -174,12 +180,13 @@ class ClauseTest(ReaderCase):
 
     def test_what_is_no_clause(self):
         self.refuses_texts(read_clause, [
-            "a = b or ", " or a = b", "a = b  or size <= 1", "a = b or  size <= 1", "a = bor size <= 1", "a = b orsize <= 1",
-            "a = b or or size <= 1", "a = b size <= 1", "a = b, size <= 1", "a = b or size <= 3", "a = b or o: a < d",
-            "a = b or x: p", "a = b\nor size <= 1", "a = b or size <= 1\n"], NAMES, THEORIES)
+            "a = b or ", " or a = b", "a = b  or size <= 1", "a = b or  size <= 1", "a = bor size <= 1",
+            "a = b orsize <= 1", "a = b or or size <= 1", "a = b size <= 1", "a = b, size <= 1", "a = b or size <= 3",
+            "a = b or o: a < d", "a = b or x: p", "a = b\nor size <= 1", "a = b or size <= 1\n"], NAMES, THEORIES)
 
     def test_long_clauses(self):
-        literals = clause_of([equal("t", ("f", A, ("f", (f"g{number}", A))), (f"h{number}", A)) for number in range(600)])
+        terms = [(("f", A, ("f", (f"g{number}", A))), (f"h{number}", A)) for number in range(600)]
+        literals = clause_of([equal("t", first, second) for first, second in terms])
         text = write_clause(literals)
         self.assertTrue(15000 < len(text) <= 20000)
         self.gives(literals, read_clause, text, NAMES, THEORIES, most=600)
@@ -207,12 +214,13 @@ class CardTest(ReaderCase):
     def test_what_is_no_card(self):
         self.refuses_texts(read_card, [
             "", " ", "below ", " below", "Below", "terms 1", "ring", "ring ", "ring 1", "ring 4", "ring 02", "ring  2",
-            "ring 2 ", "ring 2 3", "ring x", "ring 2\n", "kinds", "kinds ", "kinds k", "kinds k:", "kinds k:3", "kinds k:00",
-            "kinds :1", "kinds k:1:1", "kinds b:1 a:1", "kinds a:1 a:1", "kinds a:1  b:1", "kinds a:2 b:1", "kinds a:1 b:1 ",
-            "kinds a:0 b:0 c:0 d:0", "kinds a: 1", "kinds A:1", "kinds a:1,b:1", "kind a:1", "rows", "rows ", "rows 1",
-            "rows 1:00", "rows 4:00:", "rows 0:00:", "rows 01:00:", "rows 1:01:", "rows 2:02:", "rows 1:0:", "rows 1:000:",
-            "rows 2:10:", "rows 1:0a:", "rows 1:00:q,p", "rows 1:00:p,p", "rows 1:00:p,", "rows 1:00:,p", "rows 1:00:p, q",
-            "rows 1:00:p:", "rows 1:00:p:q", "rows 1:00:P", "rows 2:01: 1:00:p", "rows 1:00: 1:00:", "rows 1:00:  2:01:",
+            "ring 2 ", "ring 2 3", "ring x", "ring 2\n", "kinds", "kinds ", "kinds k", "kinds k:", "kinds k:3",
+            "kinds k:00", "kinds :1", "kinds k:1:1", "kinds b:1 a:1", "kinds a:1 a:1", "kinds a:1  b:1",
+            "kinds a:2 b:1", "kinds a:1 b:1 ", "kinds a:0 b:0 c:0 d:0", "kinds a: 1", "kinds A:1", "kinds a:1,b:1",
+            "kind a:1", "rows", "rows ", "rows 1", "rows 1:00", "rows 4:00:", "rows 0:00:", "rows 01:00:",
+            "rows 1:01:", "rows 2:02:", "rows 1:0:", "rows 1:000:", "rows 2:10:", "rows 1:0a:", "rows 1:00:q,p",
+            "rows 1:00:p,p", "rows 1:00:p,", "rows 1:00:,p", "rows 1:00:p, q", "rows 1:00:p:", "rows 1:00:p:q",
+            "rows 1:00:P", "rows 2:01: 1:00:p", "rows 1:00: 1:00:", "rows 1:00:  2:01:",
             "rows 1:00: ", "rows :00:", "rows 1,00,", "row 1:00:", "rows 1:00:a,b,c,d,e,f,g", "rows \u0661:00:",
             "rows 1:00:a,b,c,d 2:01:e,f,g"], 2)
 
@@ -293,15 +301,17 @@ class ProblemTest(ReaderCase):
             self.refuses_problem(line, *rows[:at], rows[at + 1], rows[at], *rows[at + 2:])
 
     def test_the_first_line(self):
-        for row in ["names ", " names", "name a", "names  a", "names a ", "names b a", "names a a", "names a b c d", "names A",
-                    "names ab", "names a,b", "a", "Names", "theory o below", "1. size <= 1", "names\ta", "names a\r"]:
+        for row in ["names ", " names", "name a", "names  a", "names a ", "names b a", "names a a", "names a b c d",
+                    "names A", "names ab", "names a,b", "a", "Names", "theory o below", "1. size <= 1", "names\ta",
+                    "names a\r"]:
             self.refuses_problem(1, row)
             self.refuses_problem(1, row, "theory o below")
 
     def test_theory_lines(self):
-        for row in ["theory", "theory o", "theory o ", "theory  below", "theory o belo", "theory o  below", "theory o below ",
-                    "theory O below", "theory oo below", "Theory o below", "theory o rows 1:0:", "theory o ring 4", "names a b",
-                    "theories o below", "theory o below t terms", "theory a below", "theory k below"]:
+        for row in ["theory", "theory o", "theory o ", "theory  below", "theory o belo", "theory o  below",
+                    "theory o below ", "theory O below", "theory oo below", "Theory o below", "theory o rows 1:0:",
+                    "theory o ring 4", "names a b", "theories o below", "theory o below t terms", "theory a below",
+                    "theory k below"]:
             self.refuses_problem(3, "names a b", "theory k terms", row)
         self.refuses_problem(5, "names", "theory a below", "theory b below", "theory c below", "theory d below")
         self.refuses_problem(3, "names", "1. size <= 1", "theory o below")

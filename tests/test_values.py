@@ -32,7 +32,8 @@ class NewListsTest(unittest.TestCase):
 
     def test_iterations_are_independent(self):
         literal = (("", "size", 1), True)
-        for held in [Cells.every(2), Problem.of((), (literal,)), EqualTerms.of((1, ("a",), ("b",))), propagate({}, [literal])]:
+        for held in [Cells.every(2), Problem.of((), (literal,)), EqualTerms.of((1, ("a",), ("b",))),
+                     propagate({}, [literal])]:
             first, second = iter(held), iter(held)
             self.assertEqual(next(first), next(second))
             self.assertEqual(len(list(held)), len(held))

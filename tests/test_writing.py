@@ -70,7 +70,8 @@ class ClauseTest(LookerCase):
 
     def test_literals_stand_in_their_order(self):
         self.gives("a = b", write_clause, (same("a", "b"),))
-        self.gives("not a = b or a = b or o: w", write_clause, (negated(same("a", "b")), same("a", "b"), word("o", "w")))
+        self.gives("not a = b or a = b or o: w", write_clause,
+                   (negated(same("a", "b")), same("a", "b"), word("o", "w")))
         self.gives("size <= 2 or a = b", write_clause, (size_at_most(2), same("a", "b")))
 
     def test_any_number_of_literals(self):
