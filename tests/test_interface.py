@@ -60,6 +60,60 @@ FUNCTIONS = {
         "horn_valuation": "(clauses, flipped)",
     },
     "picks": {"picks": "(clauses)", "is_torn": "(literals)", "least_units": "(clauses)"},
+    "boolean": {
+        "valuations": "(clauses)", "valuation": "(clauses)", "refutation_rows": "(clauses, goal=())",
+    },
+    "rowsfits": {
+        "rows_parts": "(card, names, literals, cell)", "rows_truth": "(card, names, cell, own, atom)",
+    },
+    "kindsfits": {
+        "kinds_size": "(card)", "kinds_parts": "(card, names, literals, cell)",
+        "kinds_truth": "(card, names, cell, own, atom)",
+    },
+    "belowfits": {
+        "closed_pairs": "(pairs)", "orders": "(count)", "below_parts": "(card, names, literals, cell)",
+        "below_truth": "(card, names, cell, own, atom)", "below_part": "(card, names, literals, cell)",
+    },
+    "ringfits": {
+        "ring_parts": "(card, names, literals, cell)", "ring_truth": "(card, names, cell, own, atom)",
+    },
+    "termsfits": {
+        "terms_part": "(card, names, literals, cell)", "term_value": "(names, cell, own, term)",
+        "terms_truth": "(card, names, cell, own, atom)",
+    },
+    "deciders": {
+        "all_parts": "(card, names, literals, cell)", "fits": "(card, names, literals, cell)",
+        "true_in": "(card, names, cell, own, literal)", "cells_of": "(card, names, literals, *, among=None)",
+        "clashes": "(card, names, literals, *, among=None)", "least_clash": "(card, names, literals)",
+    },
+    "typetables": {"own_atoms": "(owner, card, names)", "type_rows": "(owner, card, names)"},
+    "certificates": {},
+    "checking": {
+        "row_clauses": "(problem, certificate)", "check": "(problem, certificate)", "refutes": "(problem, certificate)",
+    },
+    "trimming": {
+        "trimmed": "(certificate, *, end=None)", "merged": "(certificate)", "joined": "(first, second, atom)",
+        "leans": "(certificate)", "theory_owners": "(certificate)",
+        "renamed_certificate": "(certificate, mapping)", "relabelled": "(certificate, mapping)",
+        "discharged": "(certificate, assumptions)", "tightened": "(problem, certificate)",
+    },
+    "certtexts": {
+        "write_certificate": "(certificate)", "certificate_lines": "(certificate)",
+        "read_certificate": "(text, names, theories)",
+    },
+    "models": {},
+    "standing": {
+        "fitting_picks": "(problem, cell)", "standing": "(problem)", "has_model": "(problem)",
+        "stands_at": "(problem, cell)", "models": "(problem)", "least_model": "(problem)",
+    },
+    "gluing": {
+        "glued": "(first, second)", "without_owner": "(model, owner)", "renamed_model": "(model, mapping)",
+        "apart": "(first, second, literals)", "described": "(model)",
+    },
+    "families": {
+        "unit_sets": "(names)", "family": "(owner, card, names)",
+        "family_sets": "(owner, card, names, *, inside=None)",
+    },
 }
 
 METHODS = {
@@ -86,11 +140,25 @@ METHODS = {
         "replayed": "(clauses, steps)", "__len__": "(self)", "__iter__": "(self)", "__contains__": "(self, x)",
         "__getitem__": "(self, at)",
     },
+    ("certificates", "Certificate"): {
+        "__init__": "(self, rows)", "__eq__": "(self, other)", "__len__": "(self)", "__iter__": "(self)",
+        "__getitem__": "(self, at)", "__add__": "(self, other)", "given": "(label)", "theory": "(owner, clause)",
+        "resolve": "(self, first, second, atom)",
+    },
+    ("checking", "Checker"): {"__init__": "(self, problem)", "__call__": "(self, certificate)"},
+    ("models", "Model"): {
+        "__init__": "(self, names, theories, cell, own)", "__eq__": "(self, other)", "__call__": "(self, literal)",
+        "card": "(self, owner)", "own_part": "(self, owner)", "theories": "(self)", "holds": "(self, literal)",
+        "meets": "(self, clause)", "satisfies": "(self, problem)",
+    },
 }
 
-STATIC = {("Cells", "every"), ("Cells", "where"), ("Problem", "of"), ("EqualTerms", "of"), ("Propagation", "replayed")}
-PROPERTIES = [("equalterms", "EqualTerms", "equations")]
-GENERATORS = [("writing", "written_lines"), ("picks", "picks")]
+STATIC = {("Cells", "every"), ("Cells", "where"), ("Problem", "of"), ("EqualTerms", "of"), ("Propagation", "replayed"),
+          ("Certificate", "given"), ("Certificate", "theory")}
+PROPERTIES = [("equalterms", "EqualTerms", "equations"), ("certificates", "Certificate", "last")]
+GENERATORS = [("writing", "written_lines"), ("picks", "picks"), ("boolean", "valuations"),
+              ("certtexts", "certificate_lines"), ("standing", "fitting_picks"), ("standing", "models"),
+              ("families", "family_sets")]
 
 
 def module(name):

@@ -2,15 +2,22 @@
 
 import unittest
 
+from onelooker.belowfits import orders
 from onelooker.cells import Cells
+from onelooker.certificates import Certificate
 from onelooker.chains import conclusions
+from onelooker.checking import row_clauses
+from onelooker.deciders import all_parts
 from onelooker.equalterms import EqualTerms, closure
+from onelooker.families import family, unit_sets
 from onelooker.literals import shared_literals
+from onelooker.models import Model
 from onelooker.names import cells_over, pairs, partitions
 from onelooker.picks import least_units
 from onelooker.problems import Problem
 from onelooker.propagating import propagate
 from onelooker.scanning import tokens
+from onelooker.typetables import own_atoms, type_rows
 
 
 class NewListsTest(unittest.TestCase):
@@ -18,7 +25,11 @@ class NewListsTest(unittest.TestCase):
     def test_returned_lists_are_new(self):
         for call in [lambda: pairs(("a", "b")), lambda: partitions(2), lambda: partitions(0), lambda: cells_over(2),
                      lambda: shared_literals(("a", "b")), lambda: tokens("a b"), lambda: least_units([]),
-                     lambda: conclusions([], [("still", ("a",))])]:
+                     lambda: conclusions([], [("still", ("a",))]), lambda: orders(2), lambda: unit_sets(("a",)),
+                     lambda: all_parts(("ring", 2), ("a",), [], (1, (0,))), lambda: all_parts(None, (), [], (1, ())),
+                     lambda: own_atoms("o", ("below",), ("a", "b")), lambda: type_rows("o", ("below",), ("a",)),
+                     lambda: family("o", ("terms",), ("a", "b")),
+                     lambda: row_clauses(Problem.of(()), Certificate([]))]:
             first, second = call(), call()
             self.assertIs(type(first), list)
             self.assertIsNot(first, second)
@@ -29,11 +40,14 @@ class NewListsTest(unittest.TestCase):
         first = closure([], [("a",)])
         first.clear()
         self.assertEqual(closure([], [("a",)]), {("a",): ("a",)})
+        model = Model((), {"o": ("below",)}, (1, ()), {"o": ()})
+        model.theories().clear()
+        self.assertEqual(model.theories(), {"o": ("below",)})
 
     def test_iterations_are_independent(self):
         literal = (("", "size", 1), True)
         for held in [Cells.every(2), Problem.of((), (literal,)), EqualTerms.of((1, ("a",), ("b",))),
-                     propagate({}, [literal])]:
+                     propagate({}, [literal]), Certificate.given(1)]:
             first, second = iter(held), iter(held)
             self.assertEqual(next(first), next(second))
             self.assertEqual(len(list(held)), len(held))
