@@ -35,9 +35,7 @@ def _read_resolve(rest, names, theories, index):
     line = index + 1
     first, _, behind = rest.partition(" ")
     second, _, written = behind.partition(" on ")
-    atom, sign = read_literal(written, names, theories, line=line)
-    if not sign:
-        raise BadText(line)
+    atom, _ = read_literal(written, names, theories, line=line)
     return ("resolve", read_number(first, most=index - 1, line=line),
             read_number(second, most=index - 1, line=line), atom)
 
@@ -69,6 +67,7 @@ def read_certificate(text, names, theories):
     for index, line in enumerate(lines):
         _, _, rest = line.partition(" ")
         row = _read_row(rest, names, theories, index)
+        # What a reader took for a row is written otherwise if it left out or changed anything.
         if f"{index}. {_written_row(row)}" != line:
             raise BadText(index + 1)
         rows.append(row)

@@ -24,12 +24,11 @@ def _are_literals(values, names, theories):
 
 def _theory_clause(problem, owner, clause):
     """The clause of a theory row; None if the row is not right."""
-    if not isinstance(owner, str) or not (owner == "" or owner in problem.owners) or not isinstance(clause, tuple):
+    if (owner != "" and owner not in problem.owners) or not isinstance(clause, tuple):
         return None
     card = card_of(problem, owner)
     # A literal of another owner is refused, too, because there is no other theory to check it with.
-    theories = {} if card is None else {owner: card}
-    if not _are_literals(clause, problem.names, theories) or not is_ascending(clause):
+    if not _are_literals(clause, problem.names, {owner: card}) or not is_ascending(clause):
         return None
     return clause if clashes(card, problem.names, negations(clause)) else None
 

@@ -146,6 +146,11 @@ class RowsTest(LookerCase):
         self.refused({1: (P,)}, (S,))
         self.refused({1: (P,)}, (NOT_P, S))
 
+    def test_an_atom_that_some_clauses_do_not_need(self):
+        self.check({1: (NOT_P, R), 2: (Q,), 3: (NOT_Q,)}, (R,))
+        self.check({1: (P, R), 2: (Q,), 3: (NOT_Q,)}, (R,))
+        self.check({1: (NOT_P, Q), 2: (Q,), 3: (NOT_Q, R), 4: (P, R)}, (R, S))
+
     def test_a_clause_with_a_literal_and_its_negation(self):
         self.check({1: (NOT_P, P), 2: (P,), 3: (NOT_P,)})
         self.check({1: (NOT_P, P), 2: (NOT_P, P, Q), 3: (NOT_Q,), 4: (Q,)})

@@ -57,7 +57,9 @@ class RightRowsTest(LookerCase):
         for row in [None, True, 5, "given", "", (), [], {}, ["given", 3], ("given",), ("given", 3, 3), ("Given", 3),
                     (3, "given"), ("theory",), ("theory", "o"), ("theory", "o", ORDER, 1), ("theory", ORDER),
                     ("resolve",), ("resolve", 0, 1), ("resolve", 0, 1, AB[0], 1), (None,), ((),), ([], []),
-                    ("shared", ORDER), (("given", 3),), ("given", 3, 3, 3), Certificate.given(3)]:
+                    ("shared", ORDER), (("given", 3),), ("given", 3, 3, 3), Certificate.given(3),
+                    ("shared", "", TRUE_SIZE), (None, "o", ORDER), ("resolve", "o", ORDER), ("given", "o", ORDER),
+                    ("Resolve", 0, 1, AB[0]), ("theory", 0, 1, AB[0]), ("label", 3), ("theory", 3), ("resolve", 3)]:
             self.wrong(*GIVEN, row)
 
     def test_given(self):
@@ -141,6 +143,7 @@ class RightRowsTest(LookerCase):
             self.wrong(*GIVEN, ("resolve", 0, 1, atom))
         self.wrong(*GIVEN, ("resolve", 1, 0, AB[0]))
         self.wrong(*GIVEN, ("resolve", 0, 0, AB[0]))
+        self.wrong(*GIVEN, ("resolve", 1, 1, AB[0]))
 
     def test_atoms_that_contain_a_truth_value(self):
         problem = Problem.of(NAMES, (SIZE_1,), (negated(SIZE_1),), (TURN,), (negated(TURN),), t=("ring", 2))

@@ -1,3 +1,4 @@
+import itertools
 import random
 
 from helper import LookerCase
@@ -16,6 +17,16 @@ NAMES = ("a", "b")
 SAME, SIZE_1, SIZE_2 = same("a", "b"), size_at_most(1), size_at_most(2)
 AB, BA = below("o", "a", "b"), below("o", "b", "a")
 FA, FB = ("f", ("a",)), ("f", ("b",))
+SIGNS = list(itertools.product((False, True), repeat=3))
+WORDS = [word("r", text) for text in "pqr"]
+CARDS = {"r": ("rows", tuple(sorted((cell, tuple(text for text, sign in zip("pqr", signs) if sign))
+                                    for cell in cells_over(2) for signs in SIGNS))),
+         "t": ("terms",), "o": ("below",), "u": ("ring", 2), "k": ("kinds", (("k", 0), ("l", 0)))}
+
+
+def signed(literals, signs):
+    """The clause of positive literals with other signs."""
+    return tuple((atom, sign) for (atom, _), sign in zip(literals, signs))
 
 
 class PicksTest(LookerCase):
@@ -88,6 +99,50 @@ class PicksTest(LookerCase):
         self.assertEqual(list(fitting_picks(problem, (3, (0, 0)))), [])
         self.assertEqual(len(standing(problem)), 0)
         self.assertEqual(len(standing(problem.drop(40))), 3)
+
+    def check_choices(self, three):
+        """All but one choice of signs for three literals are denied: the picks are those of the choice that is left."""
+        owners = {owner_of(literal) for literal in three} - {""}
+        for free in SIGNS:
+            left = [(atom, not sign) for (atom, _), sign in zip(three, free)]
+            clauses = [signed(three, signs) for signs in SIGNS if signs != free]
+            problem = Problem.of(NAMES, *clauses, **{owner: CARDS[owner] for owner in sorted(owners)})
+            every = [problem[label] for label in problem]
+            wanted = list(itertools.product(*[[each for each in clause if each in left] for clause in every]))
+            single = Problem.of(NAMES, *[(literal,) for literal in left], **problem.theories())
+            for cell in cells_over(2):
+                stands = slow_picks(single, cell) != []
+                self.assertEqual(list(fitting_picks(problem, cell)), wanted if stands else [])
+                self.assertEqual(cell in standing(problem), stands)
+            self.assertFalse(has_model(problem.put(999, signed(three, free))))
+
+    def test_all_but_one_choice_of_three_literals_denied(self):
+        equals = [equal("t", (function, ("a",)), ("a",)) for function in "fgh"]
+        for three in (WORDS, equals, [WORDS[0], equals[1], WORDS[2]], [equals[0], WORDS[1], WORDS[2]],
+                      [AB, turn("u", "a", "b", 1), SAME]):
+            self.check_choices(three)
+
+    def test_literals_that_deny_or_imply_each_other(self):
+        denied = [signed(WORDS, signs) for signs in SIGNS]
+        both = [turn("u", "a", "b", 0), turn("u", "a", "b", 1)]
+        kinds = [negated(of_kind("k", "a", "k")), of_kind("k", "a", "l")]
+        torn = [kinds[0], negated(kinds[0])]
+        for first in [tuple(kinds), (*both, SAME), (*both, AB), (*kinds, AB), (SAME, *kinds, AB), (*torn, AB),
+                      (*torn, WORDS[0])]:
+            owners = {"r", *[owner_of(literal) for literal in first]} - {""}
+            problem = Problem.of(NAMES, first, *denied, **{owner: CARDS[owner] for owner in sorted(owners)})
+            self.assertFalse(has_model(problem))
+            self.assertTrue(has_model(problem.drop(5)))
+            self.assertEqual([cell for cell in cells_over(2) if list(fitting_picks(problem, cell))], [])
+
+    def test_terms_that_must_be_equal_because_of_their_arguments(self):
+        low, high = ("f", FA), ("f", ("b",))
+        told = [equal("t", FA, ("b",)), equal("t", FA, ("g", ("a",)))]
+        problem = Problem.of(NAMES, (negated(equal("t", low, high)),), tuple(told), t=("terms",))
+        self.assertEqual(list(fitting_picks(problem, (3, (0, 1)))), [(negated(equal("t", low, high)), told[1])])
+        problem = Problem.of(NAMES, tuple(told), (negated(equal("t", low, high)),), (told[0], SAME), t=("terms",))
+        self.assertEqual(list(fitting_picks(problem, (3, (0, 1)))), [])
+        self.assertEqual([pick[0] for pick in fitting_picks(problem, (3, (0, 0)))], [told[1]])
 
     def test_chains_of_equal_terms(self):
         terms = [(f"f{number}", ("a",)) for number in range(20)]

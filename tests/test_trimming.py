@@ -244,6 +244,13 @@ class DischargedTest(TrimmingCase):
         self.turns([rows[0], ("theory", "", (negated(SAME), SAME)), *rows[2:]], discharged, Certificate(rows),
                    {2: negated(SAME)})
 
+    def test_indexes_are_no_labels(self):
+        rows = [("given", 2), ("theory", "o", ORDER), ("resolve", 1, 1, AB[0]), ("resolve", 2, 1, AB[0])]
+        self.turns(rows, discharged, Certificate(rows), {1: AB})
+        self.turns([("theory", "o", (negated(AB), AB)), *rows[1:]], discharged, Certificate(rows), {1: BA, 2: AB})
+        self.turns([("given", 9), *rows[1:]], relabelled, Certificate(rows), {1: 8, 2: 9})
+        self.gives((2,), leans, Certificate(rows))
+
     def test_a_label_that_no_row_has(self):
         self.turns(ROWS, discharged, Certificate(ROWS), {4: AB})
         self.turns(ROWS, discharged, Certificate(ROWS), {})
