@@ -117,11 +117,14 @@ class Search:
         left = self._theories[at].after(state[at], literal)
         return None if left is None else (*state[:at], left, *state[at + 1:])
 
+    def _is_possible(self, state):
+        """True if, for each owner, its literals among those that led to the state fit the cell."""
+        return all([theory.is_possible(left) for theory, left in zip(self._theories, state)])
+
     def stands(self, state):
         """True if the literals that led to the state belong to some fitting pick."""
         if state not in self._standing:
-            possible = [theory.is_possible(left) for theory, left in zip(self._theories, state)]
-            self._standing[state] = all(possible) and self._can_go_on(state)
+            self._standing[state] = self._is_possible(state) and self._can_go_on(state)
         return self._standing[state]
 
     def _can_go_on(self, state):
@@ -135,7 +138,7 @@ class Search:
                 return True
             # From here on the literal may be denied, because nothing is left where it holds.
             state = self.after(state, negated(literal))
-            if state is None:
+            if state is None or not self._is_possible(state):
                 return False
         return False
 
