@@ -38,7 +38,7 @@ def _check_labels(clauses):
         raise TooMany("clauses")
 
 
-def _stored_clause(value, names, theories):
+def stored_clause(value, names, theories):
     """The value as a clause of a problem; raises an error if it cannot be one."""
     if not isinstance(value, tuple) or len(value) == 0:
         raise BadClause(value)
@@ -70,7 +70,7 @@ class Problem:
         _check_theories(theories, len(names))
         _check_labels(clauses)
         labels = sorted(list(clauses))
-        stored = [_stored_clause(clauses[label], names, theories) for label in labels]
+        stored = [stored_clause(clauses[label], names, theories) for label in labels]
         _check_terms(stored)
         self.names = names
         self.owners = tuple(sorted(list(theories)))

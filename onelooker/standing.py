@@ -121,7 +121,7 @@ class Search:
         """True if, for each owner, its literals among those that led to the state fit the cell."""
         return all([theory.is_possible(left) for theory, left in zip(self._theories, state)])
 
-    def stands(self, state):
+    def leads_on(self, state):
         """True if the literals that led to the state belong to some fitting pick."""
         if state not in self._standing:
             self._standing[state] = self._is_possible(state) and self._can_go_on(state)
@@ -134,7 +134,7 @@ class Search:
             return True
         for literal in choices:
             following = self.after(state, literal)
-            if following is not None and self.stands(following):
+            if following is not None and self.leads_on(following):
                 return True
             # From here on the literal may be denied, because nothing is left where it holds.
             state = self.after(state, negated(literal))
@@ -162,7 +162,7 @@ def _rests_of_picks(search, state, clauses):
     later = clauses[1:]
     for literal in clauses[0]:
         following = search.after(state, literal)
-        if following is not None and search.stands(following):
+        if following is not None and search.leads_on(following):
             for rest in _rests_of_picks(search, following, later):
                 yield (literal, *rest)
 
@@ -171,14 +171,14 @@ def fitting_picks(problem, cell):
     """Generates the picks of a problem that fit the cell, ascending."""
     search = Search(problem, cell)
     start, clauses = search.start(), search.listed
-    if search.stands(start):
+    if search.leads_on(start):
         yield from _rests_of_picks(search, start, clauses)
 
 
 def _stands_at(problem, cell):
     """True if some pick of the problem fits the cell."""
     search = Search(problem, cell)
-    return search.stands(search.start())
+    return search.leads_on(search.start())
 
 
 def standing(problem):

@@ -114,6 +114,52 @@ FUNCTIONS = {
         "unit_sets": "(names)", "family": "(owner, card, names)",
         "family_sets": "(owner, card, names, *, inside=None)",
     },
+    "convexity": {
+        "is_smooth": "(owner, card, names)", "is_convex": "(owner, card, names)",
+        "table_closed": "(owner, card, names)", "meet_gap": "(owner, card, names)",
+        "cards_alike": "(owner, first, second, names)",
+    },
+    "asrows": {
+        "rows_card": "(owner, card, names)", "rows_literal": "(owner, card, names, literal)",
+        "rows_problem": "(problem, owner)",
+    },
+    "jointcards": {"joint_card": "(first, second)", "joint_problem": "(problem, first, second)"},
+    "policies": {},
+    "telling": {
+        "told_literals": "(kinds, names, known, heard)", "demand": "(kinds, names, known, heard)",
+        "is_stuck_point": "(policy, names, heard, known)",
+    },
+    "judging": {
+        "gaps": "(policy, names, theories)", "gap": "(policy, names, theories)",
+        "is_complete": "(policy, names, theories)", "stuck_problem": "(policy, names, theories)",
+    },
+    "reducing": {"reduced": "(policy, names, theories)", "extended": "(policy, names, theories)"},
+    "rounds": {},
+    "settling": {
+        "settle": "(names, theories, policy, literals)", "branch_ends": "(names, theories, policy, literals)",
+        "widest_points": "(names, theories, policy, literals)", "core": "(names, theories, policy, literals)",
+    },
+    "deciding": {"decide": "(problem, policy, *, order=None)"},
+    "asking": {
+        "follows": "(problem, clause, *, without=())", "follows_text": "(problem, text, *, without=())",
+        "counter_models": "(problem, clause)", "certificate_for": "(problem, clause, policy)", "facts": "(problem)",
+        "sharpened": "(problem, clause)", "slimmed": "(problem)", "alike": "(first, second)",
+        "telling_model": "(first, second)",
+    },
+    "conflicts": {
+        "conflicts": "(problem, *, most=None)", "corrections": "(problem, *, most=None)",
+        "first_conflict": "(problem)", "hitting_sets": "(sets)", "walk_corrections": "(problem)",
+    },
+    "components": {
+        "components": "(problem)", "component_problems": "(problem)", "clause_against": "(names, cell)",
+        "problem_for": "(names, cells)", "shadow": "(problem)",
+    },
+    "interpolants": {
+        "row_sets": "(left, right, certificate)", "interpolant": "(left, right, certificate)",
+    },
+    "easy": {"easy_flips": "(problem)", "decide_easy": "(problem)"},
+    "sessions": {},
+    "journal": {"journal_lines": "(session)"},
 }
 
 METHODS = {
@@ -151,14 +197,42 @@ METHODS = {
         "card": "(self, owner)", "own_part": "(self, owner)", "theories": "(self)", "holds": "(self, literal)",
         "meets": "(self, clause)", "satisfies": "(self, problem)",
     },
+    ("asrows", "Wording"): {
+        "__init__": "(self, owner, sources, *, letter='w')", "of_card": "(owner, card, names)", "__len__": "(self)",
+        "__iter__": "(self)", "__contains__": "(self, x)", "__getitem__": "(self, at)", "__call__": "(self, literal)",
+    },
+    ("policies", "Policy"): {
+        "__init__": "(self, **told)", "alike": "(owners, kinds)", "__eq__": "(self, other)", "__len__": "(self)",
+        "__iter__": "(self)", "__contains__": "(self, x)", "__or__": "(self, other)", "__and__": "(self, other)",
+        "kinds": "(self, owner)", "with_kind": "(self, owner, kind)", "without": "(self, owner, kind)",
+        "covers": "(self, other)",
+    },
+    ("rounds", "Rounds"): {
+        "__init__": "(self, names, theories, policy, literals)", "live": "(self, owner)", "tellable": "(self)",
+        "tell": "(self, owner, literal)", "hear": "(self, literal)", "run": "(self)", "walk": "(self)",
+        "demand_now": "(self)", "branch": "(self, literal)", "reason": "(self, index)",
+        "resumed": "(names, theories, policy, literals, told)",
+    },
+    ("settling", "Settled"): {},
+    ("deciding", "Outcome"): {"__init__": "(self, verdict, model, certificate, pick)"},
+    ("sessions", "Session"): {
+        "__init__": "(self, names, theories, policy)", "__len__": "(self)", "__iter__": "(self)",
+        "__contains__": "(self, x)", "__getitem__": "(self, at)", "__setitem__": "(self, at, worth)",
+        "drop": "(self, label)", "undo": "(self)", "ask": "(self)", "use": "(self, policy)",
+        "what_if": "(self, clauses)",
+    },
 }
 
 STATIC = {("Cells", "every"), ("Cells", "where"), ("Problem", "of"), ("EqualTerms", "of"), ("Propagation", "replayed"),
-          ("Certificate", "given"), ("Certificate", "theory")}
-PROPERTIES = [("equalterms", "EqualTerms", "equations"), ("certificates", "Certificate", "last")]
+          ("Certificate", "given"), ("Certificate", "theory"), ("Wording", "of_card"), ("Policy", "alike"),
+          ("Rounds", "resumed")}
+PROPERTIES = [("equalterms", "EqualTerms", "equations"), ("certificates", "Certificate", "last"),
+              ("rounds", "Rounds", "shared"), ("rounds", "Rounds", "told"), ("rounds", "Rounds", "refuted"),
+              ("sessions", "Session", "policy"), ("sessions", "Session", "total")]
 GENERATORS = [("writing", "written_lines"), ("picks", "picks"), ("boolean", "valuations"),
               ("certtexts", "certificate_lines"), ("standing", "fitting_picks"), ("standing", "models"),
-              ("families", "family_sets")]
+              ("families", "family_sets"), ("judging", "gaps"), ("settling", "branch_ends"), ("asking", "counter_models"),
+              ("conflicts", "walk_corrections")]
 
 
 def module(name):

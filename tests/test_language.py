@@ -147,3 +147,25 @@ class LanguageTest(unittest.TestCase):
                     self.assertNotIn(node.id, imported, f"{name}:{node.lineno}")
                 if isinstance(node, ast.arg):
                     self.assertNotIn(node.arg, imported, f"{name}:{node.lineno}")
+
+    def test_names_of_static_methods_properties_and_class_values_mean_one_thing(self):
+        plain, static, properties, values, classes = [], [], [], [], nodes(ast.ClassDef)
+        for _, holder in classes:
+            for node in holder.body:
+                if isinstance(node, ast.Assign):
+                    values += [target.id for target in node.targets]
+                if isinstance(node, ast.FunctionDef):
+                    marks = [getattr(mark, "id", "setter") for mark in node.decorator_list]
+                    kind = static if "staticmethod" in marks else properties if marks else plain
+                    kind.append(node.name)
+        attributes = {node.attr for _, node in nodes(ast.Attribute) if isinstance(node.ctx, ast.Store)}
+        self.assertEqual(sorted(set(static) & ({*plain, *properties, *values} | attributes)), [])
+        self.assertEqual(sorted(set(properties) & {*plain, *values}), [])
+        self.assertEqual(sorted(set(values) & ({*plain} | attributes)), [])
+        self.assertEqual(sorted({*static, *properties, *values, *attributes, *plain} & {"keys", "args", "items"}), [])
+
+    def test_no_attribute_is_called_like_a_method(self):
+        methods = {node.name for _, holder in nodes(ast.ClassDef) for node in holder.body
+                   if isinstance(node, ast.FunctionDef) and not node.decorator_list}
+        stored = {node.attr for _, node in nodes(ast.Attribute) if isinstance(node.ctx, ast.Store)}
+        self.assertEqual(sorted(methods & stored), [])
