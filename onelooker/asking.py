@@ -40,7 +40,7 @@ def follows(problem, clause, *, without=()):
     for label in without:
         if label not in problem:
             raise NoLabel(label)
-    left = problem.only([label for label in problem.labels if label not in without])
+    left = problem.only([kept for kept in problem.labels if kept not in without])
     return not has_model(_denied(left, literals))
 
 
@@ -91,11 +91,12 @@ def sharpened(problem, clause):
 
 def slimmed(problem):
     """The problem without the clauses that follow from the others, dropped one by one from the last label on."""
+    left = problem
     for label in reversed(list(problem.labels)):
-        others = problem.drop(label)
+        others = left.drop(label)
         if not has_model(_denied(others, problem[label])):
-            problem = others
-    return problem
+            left = others
+    return left
 
 
 def _check_comparable(first, second):
@@ -103,7 +104,7 @@ def _check_comparable(first, second):
     if first.names != second.names:
         raise NamesMismatch()
     low, high = first.theories(), second.theories()
-    for owner in sorted({*first.owners, *second.owners}):
+    for owner in sorted(set(list(first.owners) + list(second.owners))):
         if low.get(owner) != high.get(owner):
             raise CardMismatch(owner)
 

@@ -61,7 +61,8 @@ def problem_for(names, cells):
     """The problem that stands at exactly the cells of a set."""
     if cells.width != len(names):
         raise NamesMismatch()
-    return Problem.of(names, *[clause_against(names, cell) for cell in (~cells).rows])
+    clauses = [clause_against(names, cell) for cell in (~cells).rows]
+    return Problem.of(names, *clauses)
 
 
 def shadow(problem):

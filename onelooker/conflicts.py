@@ -60,11 +60,12 @@ def first_conflict(problem):
     """The labels that are left when each one is left out, from the last one on, if the others have no model."""
     if has_model(problem):
         raise Stands()
+    left = problem
     for label in reversed(list(problem.labels)):
-        others = problem.drop(label)
+        others = left.drop(label)
         if not has_model(others):
-            problem = others
-    return problem.labels
+            left = others
+    return left.labels
 
 
 def hitting_sets(sets):

@@ -1,7 +1,7 @@
 """Deciding problems under a policy (points 153 to 155)."""
 
 from onelooker.cells import Cells
-from onelooker.deciders import all_parts, cells_of, true_in
+from onelooker.deciders import all_parts, true_in
 from onelooker.errors import BadOrder
 from onelooker.families import unit_sets
 from onelooker.literals import clause_of, negated, owner_of
@@ -9,6 +9,7 @@ from onelooker.names import cells_over, is_int, meet
 from onelooker.settling import Proof, add_denial
 from onelooker.standing import least_model
 from onelooker.telling import Views
+from onelooker.termsfits import known_with, term_leads
 
 
 class Outcome:
@@ -44,8 +45,8 @@ class Points:
         self._views = Views(names)
         self._heard = [self._views.bits_of(unit) for unit in unit_sets(names)]
         # For each cell, the cells whose partitions put together all that its own partition puts together.
-        self._coarser = [_bits_of([at for at, (_, other) in enumerate(cells) if meet(other, marks) == marks])
-                         for _, marks in cells]
+        self._coarser = [_bits_of([at for at, other in enumerate(cells) if meet(other[1], cell[1]) == cell[1]])
+                         for cell in cells]
         self._found = {}
 
     def _has_quiet_part(self, kinds, live, heard):
@@ -96,15 +97,18 @@ class TableKnown:
 
 
 class TermsKnown:
-    """The known sets of a terms theory."""
+    """The known sets of a terms theory, for literals that are among some given ones."""
 
-    def __init__(self, card, names):
-        self._card = card
+    def __init__(self, names, literals):
         self._names = names
+        # The terms are collected once, because the order of terms takes longer to find than what is the same.
+        self._known = known_with(names, literals)
 
     def known(self, literals):
         """The cells that own literals fit."""
-        return cells_of(self._card, self._names, literals)
+        width = len(self._names)
+        return Cells(width, [cell for cell in cells_over(width)
+                             if term_leads(self._names, literals, cell, self._known) is not None])
 
 
 class Listener:
@@ -115,7 +119,8 @@ class Listener:
         self._names = names
         self._deciding = None
         if card is not None:
-            self._deciding = TermsKnown(card, names) if card[0] == "terms" else TableKnown(card, names)
+            terms = card[0] == "terms"
+            self._deciding = TermsKnown(names, list(numbered.values())) if terms else TableKnown(card, names)
         self._kinds = kinds
         self._numbered = numbered
         self._own = _bits_of(list(numbered))
@@ -265,8 +270,8 @@ class PickSearch:
             literals = [self._literals[number] for number in _members(nogood)]
             return add_denial(proof, self._problem.names, self._problem.theories(), literals)
         row = proof.add_given(label, self._problem[label])
-        for number, part in parts:
-            literal = self._literals[number]
+        for choice, part in parts:
+            literal = self._literals[choice]
             if negated(literal) not in proof.proved[places[part]]:
                 return places[part]
             row = proof.add_resolved(row, places[part], literal)

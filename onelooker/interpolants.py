@@ -37,20 +37,24 @@ def _row_set(left, row, clause, sets):
     return _where_some_holds(left.names, clause) if from_left else Cells.every(len(left.names))
 
 
-def row_sets(left, right, certificate):
-    """The sets of the rows of a certificate whose rows are right for the sum of two problems."""
-    clauses = row_clauses(_joint(left, right), certificate)
+def _sets_of(left, certificate, clauses):
+    """The sets of the rows of a certificate, whose rows have these clauses."""
     sets = []
     for row, clause in zip(certificate.rows, clauses):
         sets.append(_row_set(left, row, clause, sets))
     return sets
 
 
+def row_sets(left, right, certificate):
+    """The sets of the rows of a certificate whose rows are right for the sum of two problems."""
+    return _sets_of(left, certificate, row_clauses(_joint(left, right), certificate))
+
+
 def interpolant(left, right, certificate):
     """The set of the last row of a certificate that ends in the empty clause."""
-    sets = row_sets(left, right, certificate)
-    if len(sets) == 0:
+    clauses = row_clauses(_joint(left, right), certificate)
+    if len(clauses) == 0:
         raise BadRow(0)
-    if row_clauses(left + right, certificate)[-1] != ():
+    if clauses[-1] != ():
         raise Stands()
-    return sets[-1]
+    return _sets_of(left, certificate, clauses)[-1]

@@ -20,8 +20,11 @@ class Judge:
         self.owners = sorted(list(theories))
         self.units = unit_sets(names)
         self._views = Views(names)
-        self._families = {owner: [self._views.bits_of(cells) for cells in family_sets(owner, theories[owner], names)]
-                          for owner in self.owners}
+        self._families = {owner: self._family(owner, theories[owner], names) for owner in self.owners}
+
+    def _family(self, owner, card, names):
+        """The sets of the family of a theory, as integers."""
+        return [self._views.bits_of(cells) for cells in family_sets(owner, card, names)]
 
     def _quiet(self, kinds, owner, heard):
         """The least live sets with which an owner with these kinds tells and demands nothing."""
@@ -99,7 +102,7 @@ def stuck_problem(policy, names, theories):
     for owner in live:
         literals.extend(_known_by(owner, theories[owner], names, heard, live[owner]))
     kept = clause_of(literals)
-    for literal in kept:
+    for literal in clause_of(literals):
         others = tuple([other for other in kept if other != literal])
         if len(_common_cells(names, theories, others)) == 0:
             kept = others

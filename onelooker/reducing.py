@@ -10,20 +10,23 @@ def reduced(policy, names, theories):
     judge = Judge(names, theories)
     if judge.first_gap(policy) is not None:
         raise NotComplete()
+    left = policy
     for owner, kind in reversed(list(policy.rows)):
-        if kind != "same" or (owner, "some") not in policy:
-            fewer = policy.without(owner, kind)
+        # An owner that keeps "some" must keep "same" as well.
+        if kind != "same" or (owner, "some") not in left:
+            fewer = left.without(owner, kind)
             if judge.first_gap(fewer) is None:
-                policy = fewer
-    return policy
+                left = fewer
+    return left
 
 
 def extended(policy, names, theories):
     """The policy with more pairs, added one by one until it is complete."""
     judge = Judge(names, theories)
+    found = policy
     for kind in Policy.KINDS:
         for owner in judge.owners:
-            if judge.first_gap(policy) is None:
-                return policy
-            policy = policy.with_kind(owner, kind)
-    return policy
+            if judge.first_gap(found) is None:
+                return found
+            found = found.with_kind(owner, kind)
+    return found
