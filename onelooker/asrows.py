@@ -48,8 +48,9 @@ def rows_card(owner, card, names):
     wording = Wording.of_card(owner, card, names)
     if len(wording) > MOST_WORDS:
         raise TooMany("words")
+    # The rows stay ascending, because the words of the atoms are in the order of the atoms.
     rows = [(cell, tuple([wording[atom] for atom in atoms])) for cell, atoms in type_rows(owner, card, names)]
-    return ("rows", tuple(sorted(rows)))
+    return ("rows", tuple(rows))
 
 
 def turned_forward(atom, card):

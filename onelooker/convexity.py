@@ -49,8 +49,6 @@ def _lacks_meet(cells):
 
 def meet_gap(owner, card, names):
     """The first set that the theory can know and that has no cell with the meet; None if the theory is convex."""
-    if card[0] == "terms":
-        return None
     units = unit_sets(names)
     known = {(cells & unit).rows: True for cells in family_sets(owner, card, names) for unit in units}
     for rows in sorted(list(known)):

@@ -5,7 +5,7 @@ from onelooker.deciders import all_parts, true_in
 from onelooker.errors import BadOrder
 from onelooker.families import unit_sets
 from onelooker.literals import clause_of, negated, owner_of
-from onelooker.names import cells_over, is_int, meet
+from onelooker.names import cells_over, is_int
 from onelooker.settling import Proof, add_denial
 from onelooker.standing import least_model
 from onelooker.telling import Views
@@ -35,27 +35,13 @@ def _bits_of(numbers):
 class Points:
     """The unit sets over some names, numbered, as heard sets of stuck points.
 
-    An owner allows a heard set if some part of its live set there is one with which it tells and demands nothing.
-    With fewer literals it allows all that it allowed with more. A pick stands under the policy exactly if all owners
-    allow some heard set at whose cells its shared literals hold: the rounds of the pick have an end that contains it.
+    An owner allows a heard set if it has a live set there, with which it tells and demands nothing.
     """
 
     def __init__(self, names):
-        cells = cells_over(len(names))
         self._views = Views(names)
         self._heard = [self._views.bits_of(unit) for unit in unit_sets(names)]
-        # For each cell, the cells whose partitions put together all that its own partition puts together.
-        self._coarser = [_bits_of([at for at, other in enumerate(cells) if meet(other[1], cell[1]) == cell[1]])
-                         for cell in cells]
         self._found = {}
-
-    def _has_quiet_part(self, kinds, live, heard):
-        """True if some part of a live set is one with which an owner with these kinds tells and demands nothing."""
-        if self._views.is_quiet(kinds, live, heard):
-            return True
-        # The larger a part is, the less is told; but with some, it must have a cell with the meet of its partitions.
-        return "some" in kinds and any([self._views.is_quiet(kinds, live & self._coarser[at], heard)
-                                        for at in _members(live)])
 
     def allowed(self, kinds, known):
         """The heard sets that an owner with these kinds and this known set allows."""
@@ -63,7 +49,7 @@ class Points:
         if key not in self._found:
             bits = self._views.bits_of(known)
             self._found[key] = _bits_of([at for at, heard in enumerate(self._heard)
-                                         if self._has_quiet_part(kinds, bits & heard, heard)])
+                                         if self._views.is_quiet(kinds, bits & heard, heard)])
         return self._found[key]
 
     def within(self, cells):
@@ -166,7 +152,10 @@ class PickSearch:
         return Listener(points, self._problem.names, card, policy.kinds(owner), numbered)
 
     def _stands(self, chosen):
-        """True if the chosen literals by themselves are those of a pick that stands."""
+        """True if the chosen literals by themselves are those of a pick that stands.
+
+        If they do not stand, no more literals stand either, although more of them may allow other heard sets.
+        """
         allowed = -1
         for listener in self._listeners:
             allowed = allowed & listener.allowed_by(chosen)

@@ -21,7 +21,7 @@ def _atoms_of(problem, owner):
 
 def _is_terms(problem, owner):
     """True if the theory of an owner is a terms theory."""
-    return owner != "" and problem.card(owner)[0] == "terms"
+    return problem.card(owner)[0] == "terms"
 
 
 def _holds_in_row(atom, card, held):
@@ -57,7 +57,7 @@ def _is_closed(problem, owner, flips):
 def easy_flips(problem):
     """The flips with which a problem is easy; None if it is not."""
     atoms = problem.atoms()
-    if any([atom[1] == "size" for atom in atoms if atom[0] == ""]):
+    if any([atom[1] == "size" for atom in atoms]):
         return None
     fixed = [atom for atom in atoms if atom[0] == "" or _is_terms(problem, atom[0])]
     flips = horn_flips([problem[label] for label in problem.labels], fixed)

@@ -2,7 +2,7 @@
 
 from onelooker.cells import Cells
 from onelooker.checking import row_clauses
-from onelooker.errors import BadRow, NamesMismatch, SharedOwner, Stands, TakenLabel
+from onelooker.errors import BadRow, NamesMismatch, SharedOwner, Stands
 from onelooker.literals import owner_of
 
 
@@ -13,9 +13,6 @@ def _joint(left, right):
     for owner in left.owners:
         if owner in right.owners:
             raise SharedOwner(owner)
-    for label in left.labels:
-        if label in right.labels:
-            raise TakenLabel(label)
     return left + right
 
 

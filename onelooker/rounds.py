@@ -143,7 +143,6 @@ class Rounds:
 
     def branch(self, literal):
         """New rounds that have heard the same, and then a literal."""
-        check_literal(literal, self.names, {})
         rounds = Rounds(self.names, {}, self._policy, ())
         # The unit problem is the same one, so that the theories need not be decided again.
         rounds._unit = self._unit

@@ -194,6 +194,34 @@ class DecideTest(LookerCase):
         torn = Problem.of((), (SIZE_1,), (negated(SIZE_1), SIZE_2), (negated(SIZE_2),))
         self.assertEqual(self.check(torn, Policy()), "certificate")
 
+    def test_a_clause_that_has_nothing_to_do_with_it(self):
+        """Three names and a fourth term cannot be told apart with two values, whatever the first clause says."""
+        terms = [(f"f{number}", ("a",)) for number in range(3)]
+        values = [("a",), ("b",)]
+        clauses = [tuple(equal("t", term, value) for value in values) for term in terms]
+        clauses += [(negated(equal("t", low, high)),) for low, high in itertools.combinations(terms, 2)]
+        for first in ((AB, BELOW), (SIZE_2, negated(AB), BELOW)):
+            problem = Problem.of(NAMES, first, *clauses, t=("terms",), o=("below",))
+            for order in (None, tuple(range(len(problem), 0, -1)), (2, 1, *range(3, len(problem) + 1))):
+                self.assertEqual(self.check(problem, Policy(o=("other",)), order=order), "certificate")
+        wide = [tuple(equal("t", term, (name,)) for name in EVERY) for term in [*terms, ("f3", ("a",))]]
+        apart = [(negated(equal("t", low, high)),) for low, high in itertools.combinations([*terms, ("f3", ("a",))], 2)]
+        problem = Problem.of(EVERY, (BELOW, negated(BELOW)), *wide, *apart, t=("terms",), o=("below",))
+        self.check_certificate(problem, decide(problem, Policy()).certificate)
+
+    def test_a_literal_that_the_policy_needs_and_the_theories_do_not(self):
+        """Without the word q, r does not tell that both names are the same, though r and d have no common cell."""
+        together, apart = (2, (0, 0)), (2, (0, 1))
+        cards = {"r": ("rows", ((together, ("p", "q")), (apart, ("q",)), ((3, (0, 1)), ("p",)))),
+                 "d": ("rows", ((apart, ("s",)), ((3, (0, 0)), ())))}
+        clauses = [(word("r", "p"),), (word("r", "q"),), (word("d", "s"),)]
+        problem = Problem(NAMES, cards, dict(enumerate(clauses, start=1)))
+        told = Policy(r=("same",))
+        self.assertEqual(self.check(problem, told), "certificate")
+        self.assertEqual(self.check(problem.drop(2), told), "open")
+        self.assertEqual(self.check(problem.drop(1), told), "model")
+        self.assertEqual(self.check(problem.put(4, (word("r", "q"), AB)), told), "certificate")
+
     def test_far_too_many_picks_to_try(self):
         words = [word("r", f"w{number}") for number in range(6)]
         rows = ("rows", tuple(sorted(((size, (0, 0)), (f"w{number}",)) for number in range(6) for size in (1, 2, 3))))

@@ -15,8 +15,8 @@ from onelooker.problems import Problem
 from onelooker.standing import has_model
 from onelooker.telling import is_stuck_point
 from onelooker.typetables import own_atoms
-from slow import random_card
-from slowrounds import POLICIES, random_policy, random_theories, slow_gaps
+from slow import random_card, random_literals, shared_of
+from slowrounds import POLICIES, random_policy, random_theories, slow_gaps, slow_points
 
 EVERY = ("a", "b", "c")
 
@@ -84,6 +84,18 @@ class GapTest(LookerCase):
             theories = random_theories(source, EVERY)
             seen[self.check(random_policy(source, theories), EVERY, theories)] += 1
         self.assertTrue(min(seen.values()) > 5, seen)
+
+    def test_stuck_problems_with_shared_literals(self):
+        source = random.Random(257)
+        seen = 0
+        while seen < 6:
+            names = EVERY[:source.randint(0, 3)]
+            theories = {owner: random_card(source, len(names)) for owner in "opq"}
+            policy = random_policy(source, theories)
+            problem = stuck_problem(policy, names, theories)
+            if problem is not None and any(owner_of(problem[label][0]) == "" for label in problem):
+                self.check_stuck(problem, policy, names, theories)
+                seen += 1
 
     def test_the_three_owners_of_point_137(self):
         policy = Policy(c=("size",))
@@ -194,16 +206,26 @@ class CompleteTest(LookerCase):
         self.assertTrue(min(seen.values()) > 20, seen)
 
     def test_problems_of_complete_policies_stand_or_none_of_their_picks_stands(self):
-        """Point 131, for problems with clauses of one literal, that is for all picks there are."""
+        """Point 131: under a complete policy, a pick that stands shows that the problem stands."""
         source = random.Random(256)
-        for _ in range(40):
+        seen = {True: 0, False: 0}
+        while min(seen.values()) < 25:
             names = EVERY[:source.randint(0, 2)]
             theories = random_theories(source, names)
-            policy = random_policy(source, theories)
-            found = stuck_problem(policy, names, theories)
-            self.assertEqual(found is None, is_complete(policy, names, theories))
-            if found is not None:
-                self.assertIs(type(found), Problem)
+            policy = random_policy(source, theories, 0.5)
+            literals = source.sample(shared_of(names), 2)
+            for owner, card in theories.items():
+                literals += random_literals(source, owner, card, names, 3)
+            clauses = [tuple(source.choices(literals, k=source.randint(1, 2))) for _ in range(source.randint(1, 4))]
+            problem = Problem(names, theories, dict(enumerate(clauses, start=1)))
+            found = [pick for pick in itertools.product(*[problem[label] for label in problem])
+                     if slow_points(names, theories, policy, list(pick))]
+            stands = has_model(problem)
+            self.assertTrue(found != [] or not stands)
+            if is_complete(policy, names, theories):
+                self.assertEqual(found != [], stands)
+                self.assertIsNone(stuck_problem(policy, names, theories))
+                seen[stands] += 1
 
     def test_the_arguments_stay(self):
         theories = {"c": sizes(1, 3), "a": sizes(1, 2), "b": sizes(2, 3)}

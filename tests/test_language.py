@@ -37,6 +37,15 @@ def called(node):
     return getattr(node.func, "id", getattr(node.func, "attr", ""))
 
 
+def is_plain(node):
+    """True if an expression is made of names, attributes, literals, and lists, tuples and dicts of these."""
+    if isinstance(node, (ast.List, ast.Tuple)):
+        return all(is_plain(part) for part in node.elts)
+    if isinstance(node, ast.Attribute):
+        return is_plain(node.value)
+    return isinstance(node, (ast.Name, ast.Constant))
+
+
 class LanguageTest(unittest.TestCase):
 
     def test_the_folder_holds_python_files_alone(self):
@@ -78,6 +87,30 @@ class LanguageTest(unittest.TestCase):
         names = [node.name for node in functions]
         self.assertEqual([name for name in own if names.count(name) != 1], [])
         self.check_iterated(own)
+
+    def test_generators_are_passed_plain_values(self):
+        own = {node.name for _, node in nodes(ast.FunctionDef)
+               if any(isinstance(part, (ast.Yield, ast.YieldFrom)) for part in ast.walk(node))}
+        for name, node in nodes(ast.Call):
+            if called(node) in own:
+                self.assertTrue(all(is_plain(argument) for argument in node.args), f"{name}:{node.lineno}")
+
+    def test_stars(self):
+        for name, node in nodes(ast.Set):
+            self.assertEqual([part for part in node.elts if isinstance(part, ast.Starred)], [], f"{name}:{node.lineno}")
+        for name, node in nodes(ast.Call):
+            starred = [part.value for part in node.args if isinstance(part, ast.Starred)]
+            starred += [part.value for part in node.keywords if part.arg is None]
+            self.assertTrue(all(is_plain(part) for part in starred), f"{name}:{node.lineno}")
+
+    def test_loops_do_not_bind_what_they_go_over(self):
+        for name, node in nodes(ast.For):
+            over = {part.id for part in ast.walk(node.iter) if isinstance(part, ast.Name) and part.id == part.id.lower()}
+            over -= {part.id for made in ast.walk(node.iter) if isinstance(made, ast.comprehension)
+                     for part in ast.walk(made.target) if isinstance(part, ast.Name)}
+            bound = {part.id for line in node.body for part in ast.walk(line)
+                     if isinstance(part, ast.Name) and isinstance(part.ctx, ast.Store)}
+            self.assertEqual(sorted(over & bound), [], f"{name}:{node.lineno}")
 
     def test_views_and_zips_are_iterated_at_once(self):
         self.check_iterated(["zip", "enumerate", "reversed", "range", "items", "keys", "values"])

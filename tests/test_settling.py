@@ -97,6 +97,16 @@ class EndsTest(LookerCase):
         self.assertEqual(ends.count(((2, (0, 0, 0)),)), 3)
         self.assertEqual(len(widest_points(EVERY, MIXED, twice, [])), 4)
 
+    def test_an_end_within_another_end(self):
+        cells = [(2, (0, 0, 0)), (2, (0, 0, 1)), (2, (0, 1, 0))]
+        theories = {"r": ("rows", tuple((cell, ()) for cell in cells))}
+        unit = (EVERY, theories, Policy(r=("same", "some")), [])
+        ends = self.check(*unit)
+        low, high, within = [where_all_hold(EVERY, some) for some in (PAIRS[:1], PAIRS[1:2], PAIRS)]
+        self.assertEqual(ends, [tuple(sorted(cells)) for cells in (low, high, within)])
+        self.assertTrue(within < low and within < high)
+        self.assertEqual([point.rows for point in widest_points(*unit)], sorted(ends[:2]))
+
     def test_a_path_that_ends_without_a_result(self):
         policy = Policy(k=("same", "some", "size"), o=("other",))
         low = [below("o", "a", "b"), below("o", "b", "c")]
