@@ -195,7 +195,7 @@ class DecideTest(LookerCase):
         self.assertEqual(self.check(torn, Policy()), "certificate")
 
     def test_a_clause_that_has_nothing_to_do_with_it(self):
-        """Three names and a fourth term cannot be told apart with two values, whatever the first clause says."""
+        """Three terms cannot all differ if each has one of two values, whatever the first clause says."""
         terms = [(f"f{number}", ("a",)) for number in range(3)]
         values = [("a",), ("b",)]
         clauses = [tuple(equal("t", term, value) for value in values) for term in terms]
@@ -210,13 +210,13 @@ class DecideTest(LookerCase):
         self.check_certificate(problem, decide(problem, Policy()).certificate)
 
     def test_a_literal_that_the_policy_needs_and_the_theories_do_not(self):
-        """Without the word q, r does not tell that both names are the same, though r and d have no common cell."""
-        together, apart = (2, (0, 0)), (2, (0, 1))
-        cards = {"r": ("rows", ((together, ("p", "q")), (apart, ("q",)), ((3, (0, 1)), ("p",)))),
-                 "d": ("rows", ((apart, ("s",)), ((3, (0, 0)), ())))}
+        """Without the word q, r does not tell a size, though r and d have no common cell by p and s alone."""
+        one, two, three = (1, (0, 0)), (2, (0, 1)), (3, (0, 0))
+        cards = {"r": ("rows", ((one, ("p", "q")), (two, ("q",)), (three, ("p",)))),
+                 "d": ("rows", ((one, ()), (two, ("s",)), (three, ())))}
         clauses = [(word("r", "p"),), (word("r", "q"),), (word("d", "s"),)]
         problem = Problem(NAMES, cards, dict(enumerate(clauses, start=1)))
-        told = Policy(r=("same",))
+        told = Policy(r=("size",))
         self.assertEqual(self.check(problem, told), "certificate")
         self.assertEqual(self.check(problem.drop(2), told), "open")
         self.assertEqual(self.check(problem.drop(1), told), "model")
