@@ -32,9 +32,11 @@ class Wording:
         return x in self.sources
 
     def __getitem__(self, at):
-        if at not in self.sources:
-            return NO_ROW
-        return f"{self.letter}{self.sources.index(at)}"
+        # The place is counted, because an operator calls no method with the name of an attribute, as index is one.
+        for place, atom in enumerate(self.sources):
+            if atom == at:
+                return f"{self.letter}{place}"
+        return NO_ROW
 
     def __call__(self, literal):
         atom, sign = literal

@@ -42,9 +42,27 @@ class WordingTest(LookerCase):
         self.gives(negated(word("q", "y1")), wording, negated(BA))
         self.gives(negated(word("q", "z")), wording, negated(below("o", "a", "a")))
 
+    def test_the_first_a_middle_and_the_last_atom(self):
+        sources = [below("o", first, second)[0] for first in EVERY for second in EVERY if first != second]
+        wording = Wording("o", tuple(sources))
+        self.assertEqual([wording[sources[place]] for place in (0, 2, 5)], ["w0", "w2", "w5"])
+        self.assertEqual([wording[atom] for atom in wording], ["w0", "w1", "w2", "w3", "w4", "w5"])
+        self.assertEqual([wording[below("o", name, name)[0]] for name in EVERY], ["z", "z", "z"])
+        many = Wording("o", tuple([word("o", f"p{place}")[0] for place in range(12)]), letter="q")
+        self.assertEqual([many[atom] for atom in many], [f"q{place}" for place in range(12)])
+
+    def test_a_value_that_is_no_atom_of_the_sources(self):
+        wording = Wording("o", (AB[0], BA[0]))
+        for value in (AB, [AB[0]], list(AB[0]), below("p", "a", "b")[0], "w0", 0, None, ()):
+            self.assertEqual(wording[value], "z")
+            self.assertFalse(value in wording)
+
     def test_no_atoms(self):
         wording = Wording("o", [])
         self.assertEqual((len(wording), list(wording), wording.sources, wording[AB[0]]), (0, [], (), "z"))
+        self.assertEqual([Wording("o", sources, letter="x")[atom] for sources in ([], ()) for atom in (AB[0], None)],
+                         ["z"] * 4)
+        self.gives(word("o", "z"), wording, AB)
 
     def test_of_card(self):
         for card in (("below",), ("ring", 3), ("kinds", (("k", 0), ("l", 0), ("m", 2))), ("rows", (((1, (0, 0, 0)), ("p",)),))):

@@ -16,6 +16,8 @@ METHODS = set("""append clear copy count endswith extend find get index insert i
     rstrip setdefault split splitlines startswith strip update upper values zfill bit_length""".split())
 SPECIAL = set("""__init__ __eq__ __repr__ __str__ __len__ __enter__ __exit__ __call__ __iter__ __add__ __sub__ __and__
     __or__ __invert__ __contains__ __getitem__ __setitem__""".split())
+OPERATORS = SPECIAL - {"__init__", "__call__", "__setitem__", "__enter__", "__exit__"}
+MODIFYING = set("append clear extend insert pop remove reverse setdefault sort update add discard".split())
 BARRED_WORDS = ("type", "typing", "enum", "Enum", "Flag", "Generic", "Protocol", "namedtuple")
 BARRED_NODES = (ast.Global, ast.AsyncFunctionDef, ast.AsyncFor, ast.AsyncWith, ast.Await, ast.Div, ast.Import)
 ITERATING = ("list", "tuple", "dict", "sorted", "sum", "min", "max", "any", "all", "enumerate", "zip", "join")
@@ -44,6 +46,31 @@ def is_plain(node):
     if isinstance(node, ast.Attribute):
         return is_plain(node.value)
     return isinstance(node, (ast.Name, ast.Constant))
+
+
+def is_property(node):
+    """True if a function is a property that is read."""
+    return any(isinstance(mark, ast.Name) and mark.id == "property" for mark in node.decorator_list)
+
+
+def run_by_operators():
+    """All functions that operators and properties run, with their files: what is called by its bare name."""
+    functions = nodes(ast.FunctionDef)
+    starts = {node.name: [part for part in node.body if isinstance(part, ast.FunctionDef) and part.name == "__init__"]
+              for _, node in nodes(ast.ClassDef)}
+    found = [(name, node) for name, node in functions if node.name in OPERATORS or is_property(node)]
+    # The list grows while it is gone through, until nothing new is called.
+    for _, runs in found:
+        words = {called(node) for node in ast.walk(runs) if isinstance(node, ast.Call)}
+        made = [start for word in words & set(starts) for start in starts[word]]
+        found += [row for row in functions if row not in found and (row[1].name in words or row[1] in made)]
+    return found
+
+
+def bound_names(function):
+    """The parameters and local variables of a function."""
+    stored = {node.id for node in ast.walk(function) if isinstance(node, ast.Name) and isinstance(node.ctx, ast.Store)}
+    return stored | {node.arg for node in ast.walk(function) if isinstance(node, ast.arg)}
 
 
 class LanguageTest(unittest.TestCase):
@@ -125,6 +152,33 @@ class LanguageTest(unittest.TestCase):
         for name, node in nodes(ast.Call):
             if called(node) in names:
                 self.assertIn(id(node), allowed, f"{name}:{node.lineno}")
+
+    def test_operators_and_properties_call_nothing_that_an_object_holds(self):
+        stored = {node.attr for _, node in nodes(ast.Attribute) if isinstance(node.ctx, ast.Store)}
+        found = run_by_operators()
+        self.assertLessEqual({"__getitem__", "check_literal", "__init__", "last", "cells_over"},
+                             {function.name for _, function in found})
+        for name, function in found:
+            held = stored | bound_names(function)
+            for node in ast.walk(function):
+                if isinstance(node, ast.Call):
+                    self.assertIsInstance(node.func, (ast.Name, ast.Attribute), f"{name}:{node.lineno}")
+                    self.assertNotIn(called(node), held, f"{name}:{node.lineno}")
+
+    def test_operators_and_properties_change_nothing(self):
+        for name, function in run_by_operators():
+            made = {node.targets[0].id for node in ast.walk(function) if isinstance(node, ast.Assign)
+                    and isinstance(node.targets[0], ast.Name) and isinstance(node.value, (ast.List, ast.Dict, ast.ListComp))}
+            for node in ast.walk(function):
+                place = f"{name}:{getattr(node, 'lineno', 0)}"
+                if isinstance(node, ast.Attribute) and isinstance(node.ctx, ast.Store):
+                    self.assertEqual((function.name, node.value.id), ("__init__", "self"), place)
+                if isinstance(node, ast.Subscript) and not isinstance(node.ctx, ast.Load):
+                    self.assertIn(getattr(node.value, "id", ""), made, place)
+                if isinstance(node, ast.Call) and called(node) in MODIFYING:
+                    self.assertIn(getattr(getattr(node.func, "value", None), "id", ""), made, place)
+                if isinstance(node, ast.AugAssign):
+                    self.assertIsInstance(node.value, ast.Constant, place)
 
     def test_imports_name_the_file_that_defines(self):
         for name, node in nodes(ast.ImportFrom):
